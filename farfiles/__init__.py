@@ -1,0 +1,1 @@
+"""Farfiles: a tree of files kept by houses that fall, told as one."""
