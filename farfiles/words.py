@@ -3,6 +3,7 @@
 from farfiles.errors import NoGroups, NoRights, NoSign, NoWord
 from farfiles.sizes import ROOT
 
+LETTERS = "abcdefghijklmnopqrstuvwxyz"
 MOST_LETTERS = 8
 MOST_NAMES = 6
 MOST_GROUPS = 8
@@ -14,10 +15,7 @@ def is_word(thing):
     """Whether this is a WORD: a text of one to eight small letters."""
     if not isinstance(thing, str):
         return False
-    if not 1 <= len(thing) <= MOST_LETTERS:
-        return False
-    # isalpha and islower let letters beyond a to z through.
-    return all(["a" <= letter <= "z" for letter in thing])
+    return 1 <= len(thing) <= MOST_LETTERS and not thing.strip(LETTERS)
 
 
 def is_path(thing):
@@ -31,17 +29,26 @@ def is_rights(thing):
     """Whether these are RIGHTS: three texts, the owner's, the group's, all others'."""
     if not isinstance(thing, tuple):
         return False
-    return len(thing) == 3 and all([_is_one_of(text, RIGHTS_TEXTS) for text in thing])
+    if len(thing) != 3:
+        return False
+    owners, members, others = thing
+    return _is_rights_text(owners) and _is_rights_text(members) and _is_rights_text(others)
 
 
 def is_groups(thing):
     """Whether these are GROUPS: at most eight growing (GROUP, USERS)."""
     if not isinstance(thing, tuple) or len(thing) > MOST_GROUPS:
         return False
-    if not all([_is_group(row) for row in thing]):
-        return False
     # No GROUP may stand twice, so the groups alone must grow, not the rows.
-    return _grows([row[0] for row in thing])
+    ahead = ""
+    for row in thing:
+        if not isinstance(row, tuple) or len(row) != 2:
+            return False
+        group, users = row
+        if not is_word(group) or group <= ahead or not _is_users(users):
+            return False
+        ahead = group
+    return True
 
 
 def may(groups, user, sign, *, owner, group, rights):
@@ -50,7 +57,7 @@ def may(groups, user, sign, *, owner, group, rights):
         raise NoGroups(groups)
     if not is_word(user):
         raise NoWord(user)
-    if not _is_one_of(sign, SIGNS):
+    if not isinstance(sign, str) or sign not in SIGNS:
         raise NoSign(sign)
     if not is_word(owner):
         raise NoWord(owner)
@@ -68,27 +75,22 @@ def may(groups, user, sign, *, owner, group, rights):
     return sign in others
 
 
-def _is_one_of(thing, texts):
-    return isinstance(thing, str) and thing in texts
-
-
-def _is_group(thing):
-    """Whether this is one (GROUP, USERS)."""
-    if not isinstance(thing, tuple) or len(thing) != 2:
-        return False
-    return is_word(thing[0]) and _is_users(thing[1])
+def _is_rights_text(thing):
+    return isinstance(thing, str) and thing in RIGHTS_TEXTS
 
 
 def _is_users(thing):
     """Whether these are USERS of a group: growing WORDs, perhaps none."""
     if not isinstance(thing, tuple):
         return False
-    return all([is_word(user) for user in thing]) and _grows(thing)
-
-
-def _grows(words):
-    """Whether each word is more than the one ahead."""
-    return all([low < high for low, high in zip(words, words[1:])])
+    ahead = ""
+    for user in thing:
+        # Nothing is less than the first "", so an empty text is no user.
+        if not isinstance(user, str) or user <= ahead or len(user) > MOST_LETTERS:
+            return False
+        ahead = user
+    # One look at the letters of all costs much less than one look at each.
+    return not "".join(thing).strip(LETTERS)
 
 
 def _users_of(groups, group):
