@@ -1,0 +1,79 @@
+"""The tree without the cells: names, rights, room, and which pieces files have.
+
+A piece has the number of the promise by which it was put.
+"""
+
+from farfiles.nodes import Folder, Refused, copied, files_below
+from farfiles.room import Promise, lapse, room_deed
+from farfiles.shapes import shape_deed
+from farfiles.sizes import ROOT
+from farfiles.tellings import sight_of, telling_deed
+
+SHAPING = ("folder", "file", "link", "move", "strike", "cut", "rights")
+ROOMY = ("limit", "share", "promise", "put", "use", "held")
+
+
+class Core:
+    """The tree of these groups, told deeds one behind the other."""
+
+    def __init__(self, groups):
+        self.groups = groups
+        self.members = {group: users for group, users in groups}
+        self.clock = 0
+        self.top = Folder(ROOT, ROOT, ("rw", "rw", "rw"))
+        self.promises = {}
+        # How many promises were made.
+        self.made = 0
+        # The folders that have a limit.
+        self.limited = {}
+        self.shares = {}
+        self.snaps = {}
+        # The pieces that snapshots have.
+        self.snapped = {}
+
+    def act(self, when, user, deed):
+        """The answer to a deed, of a put how many cells in the place of DATA."""
+        self.clock = when
+        lapse(self)
+        try:
+            return _answered(self, user, deed)
+        except Refused as refusal:
+            return ("no", refusal.word)
+
+    def seen(self, user, path):
+        """The sight of the path."""
+        return sight_of(self, user, path)
+
+    def live_pieces(self):
+        """The pieces that a file or a snapshot has, growing."""
+        live = {piece: True for piece in self.snapped}
+        for file in files_below(self.top):
+            for piece, _, _ in file.parts:
+                live[piece] = True
+        return sorted(live)
+
+
+def trial_of(core):
+    """Another core like this one, to try a deed on."""
+    trial = Core(core.groups)
+    twins = {}
+    trial.clock = core.clock
+    trial.top = copied(core.top, twins)
+    trial.made = core.made
+    trial.limited = {copied(folder, twins): True for folder in core.limited}
+    trial.shares = dict(core.shares)
+    # A snapshot never becomes another, so both may have it.
+    trial.snaps = dict(core.snaps)
+    trial.snapped = dict(core.snapped)
+    for number, told in core.promises.items():
+        file = copied(told.file, twins)
+        trial.promises[number] = Promise(file, told.user, told.place, told.many, told.until)
+    return trial
+
+
+def _answered(core, user, deed):
+    if deed[0] in SHAPING:
+        return shape_deed(core, user, deed)
+    if deed[0] in ROOMY:
+        return room_deed(core, user, deed)
+    return telling_deed(core, user, deed)
