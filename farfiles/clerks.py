@@ -163,10 +163,8 @@ class Clerk:
 
     def _ask_cells(self, find):
         missing = _missing(find)
-        if not missing:
-            return
         for house in self.board.left():
-            if house not in find.heard:
+            if any([self._may_tell(house, piece, find) for piece in missing]):
                 text = ("fetch", find.question, tuple(missing))
                 self.head.post.send(self.head.name, house, text)
 
@@ -180,12 +178,11 @@ class Clerk:
         return tuple(sorted(houses))
 
     def _may_tell(self, house, piece, find):
-        """Whether the house, not heard yet, may still have the piece right."""
-        if house in find.heard:
-            return False
+        """Whether the house may yet tell the piece's cells."""
+        # It told once that it hasn't them right, but got them since.
         if house in self.head.steward.right_with(piece):
             return True
-        return self.board.clock - find.since < LONG_ENOUGH
+        return house not in find.heard and self.board.clock - find.since < LONG_ENOUGH
 
 
 def _first_deed(deed):

@@ -105,6 +105,7 @@ class Watched:
         world = self.world
         letters = world.letters()
         wanted = self.at_once(asker, deed)
+        by_lease = deed[0] != "glance" or self.of_old(asker, deed[1]) is None
         told_ahead = max([row[4] for row in world.told()], default=0)
         question = world.ask(asker, deed)
         self.case.assertEqual(question, len(self.asked))
@@ -118,7 +119,7 @@ class Watched:
         else:
             self.case.assertEqual(world.answer(question), wanted, deed)
             self.case.assertEqual(world.letters(), letters)
-            if wanted[2] == 0:
+            if by_lease:
                 self.check_newest(asker, deed, wanted)
         return question
 
@@ -376,22 +377,63 @@ class Watched:
 
 
 NAMES = ("a", "b", "c")
+KNOWN = (("b",), ("a", "b"), ("a",), ())
+
+WORDS = (
+    "folder", "folder", "file", "file", "file", "link", "move", "strike", "cut", "rights",
+    "read", "read", "read", "list", "look", "limit", "share", "use", "held", "snap", "old",
+    "write", "write", "write", "write", "write", "write", "lease", "lease", "lease", "back",
+    "glance", "glance", "glance",
+)
+LEASE_WORDS = (
+    "lease", "lease", "lease", "lease", "back", "read", "read", "list", "look", "glance",
+    "glance", "write", "write", "write", "cut", "file", "folder", "strike", "move", "link", "rights",
+)
+CELL_WORDS = (
+    "write", "write", "write", "write", "read", "read", "read", "glance", "lease", "snap", "old",
+    "old", "cut", "file",
+)
 
 
-def drawn_path(draw, most=3):
-    if draw.chance(60):
-        return draw.one((("b",), ("a", "b"), ("a",), ()))
-    return tuple([draw.one(NAMES) for _ in range(draw.below(most + 1))])
+class Kind:
+    """What a drawn row is mostly made of."""
+
+    def __init__(self, words, known, falling):
+        self.words = words
+        # How often, of a hundred, a path is one of KNOWN.
+        self.known = known
+        # How often, of a hundred, what is harmed only falls.
+        self.falling = falling
+
+    def houses(self, watched):
+        return watched.houses
 
 
-def drawn_deed(draw, users):
-    path = drawn_path(draw)
-    word = draw.one((
-        "folder", "folder", "file", "file", "file", "link", "move", "strike", "cut", "rights",
-        "read", "read", "read", "list", "look", "limit", "share", "use", "held", "snap", "old",
-        "write", "write", "write", "write", "write", "write", "lease", "lease", "lease", "back",
-        "glance", "glance", "glance",
-    ))
+class Cells(Kind):
+    def houses(self, watched):
+        return watched.pieces
+
+
+class Heads(Kind):
+    def houses(self, watched):
+        return watched.heads
+
+
+KINDS = {
+    "all": Kind(WORDS, 60, 70), "leases": Kind(LEASE_WORDS, 90, 100),
+    "cells": Cells(CELL_WORDS, 90, 30), "heads": Heads(WORDS, 80, 97),
+}
+
+
+def drawn_path(draw, known=60):
+    if draw.chance(known):
+        return draw.one(KNOWN)
+    return tuple([draw.one(NAMES) for _ in range(draw.below(4))])
+
+
+def drawn_deed(draw, users, kind):
+    path = drawn_path(draw, kind.known)
+    word = draw.one(kind.words)
     if word in ("folder", "file", "strike", "read", "list", "look", "use", "back"):
         return (word, path)
     if word in ("link", "move"):
@@ -428,52 +470,52 @@ def setup(watched):
         watched.calm()
 
 
-def drawn_step(watched, draw, harm):
-    """One step of any kind; harm tells how often something bad happens."""
-    world = watched.world
+def drawn_step(watched, draw, harm, kind):
+    """One step of any kind; harm tells how often, of a hundred, something bad happens."""
     roll = draw.below(100)
     if roll < 30:
         asker = draw.one(watched.askers)
         if asker not in watched.down and asker not in watched.open:
-            watched.ask(asker, drawn_deed(draw, watched.users + ("root",)))
+            watched.ask(asker, drawn_deed(draw, watched.users + ("root",), kind))
     elif roll < 80:
-        letters = world.letters()
-        if letters:
-            oldest = letters[:1 + draw.below(6)]
-            number = draw.one(letters if draw.chance(30) else oldest)[0]
-            word = "carry" if draw.chance(100 - harm) else draw.one(("lose", "double"))
-            watched.step(word, number)
+        drawn_letter(watched, draw, harm)
     elif roll < 90:
         watched.step("tick", 1 + draw.below(draw.one((2, 2, 2, 30))))
     elif roll < 93:
-        for number, _, _ in world.letters():
+        for number, _, _ in watched.world.letters():
             watched.step("carry", number)
-    elif draw.below(100) < harm:
-        drawn_harm(watched, draw)
+    elif draw.chance(harm):
+        drawn_harm(watched, draw, kind)
     else:
         drawn_help(watched, draw)
 
 
-def drawn_harm(watched, draw):
-    roll = draw.below(100)
-    house = draw.one(watched.houses)
+def drawn_letter(watched, draw, harm):
+    letters = watched.world.letters()
+    if letters:
+        oldest = letters[:1 + draw.below(6)]
+        number = draw.one(letters if draw.chance(30) else oldest)[0]
+        word = "carry" if draw.chance(100 - harm) else draw.one(("lose", "double"))
+        watched.step(word, number)
+
+
+def drawn_harm(watched, draw, kind):
+    house = draw.one(kind.houses(watched))
     piece = draw.one(watched.pieces)
-    if roll < 70:
+    head = draw.one(watched.heads)
+    if draw.chance(kind.falling):
         if watched.up(house):
             watched.fall(house)
-    elif roll < 88:
-        if piece not in watched.lost:
-            watched.bend(piece)
-    elif roll < 92:
-        if piece not in watched.lost:
-            watched.gone(piece)
-    elif roll < 95:
-        if piece not in watched.lost:
-            watched.empty(piece)
-    elif roll < 97:
-        head = draw.one(watched.heads)
-        if head not in watched.lost:
-            watched.gone(head)
+        return
+    roll = draw.below(100)
+    if roll < 60 and piece not in watched.lost:
+        watched.bend(piece)
+    elif 60 <= roll < 75 and piece not in watched.lost:
+        watched.gone(piece)
+    elif 75 <= roll < 90 and piece not in watched.lost:
+        watched.empty(piece)
+    elif roll >= 90 and head not in watched.lost:
+        watched.gone(head)
 
 
 def drawn_help(watched, draw):
@@ -493,3 +535,23 @@ def finish(watched):
     watched.alone()
     watched.calm()
     watched.check()
+
+
+GROUPS = (("root", ("ann",)), ("staff", ("ann", "bob")))
+
+
+def drawn_world(case, seed, steps, kind):
+    """A World that a long drawn row of all that can be has been done to."""
+    draw = Draw(seed)
+    users = tuple([draw.one(("ann", "bob", "eve", "root")) for _ in range(1 + draw.below(4))])
+    pieces = 1 + draw.below(5)
+    copies = 1 + draw.below(min(3, pieces))
+    groups = GROUPS if draw.chance(70) else ()
+    watched = Watched(case, users, groups=groups, pieces=pieces, copies=copies)
+    setup(watched)
+    harm = draw.one((0, 5, 20, 40))
+    for _ in range(steps):
+        drawn_step(watched, draw, harm, KINDS[kind])
+    watched.check()
+    finish(watched)
+    return watched
