@@ -180,7 +180,7 @@ class Clerk:
     def _may_tell(self, house, piece, find):
         """Whether the house may yet tell the piece's cells."""
         # It told once that it hasn't them right, but got them since.
-        if house in self.head.steward.right_with(piece):
+        if self.head.steward.has_right(house, piece):
             return True
         return house not in find.heard and self.board.clock - find.since < LONG_ENOUGH
 

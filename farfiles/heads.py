@@ -172,12 +172,13 @@ class Head:
         if word == "kept":
             self.clerk.note_kept(house, text[2])
             self.steward.note(house, text[2], text[1], True)
-            return
-        rows = text[3] if word == "found" else text[2]
-        for piece, told in rows:
-            self.steward.note(house, piece, text[1], told is not None and told is not False)
-        if word == "found":
-            self.clerk.note_found(house, text[2], rows)
+        elif word == "state":
+            for piece, right in text[2]:
+                self.steward.note(house, piece, text[1], right)
+        elif word == "found":
+            for piece, told in text[3]:
+                self.steward.note(house, piece, text[1], told is not None)
+            self.clerk.note_found(house, text[2], text[3])
 
 
 def _spans(log):

@@ -9,12 +9,17 @@ class Steward:
         self.board = head.board
         # For a house and a piece the stamp of the newest letter, and whether it's right.
         self.reports = {}
+        # The pieces that have copies enough, with so many houses gone or being emptied.
+        self.well = {}
+        self.without = 0
 
     def note(self, house, piece, stamp, right):
         """The house told so of the piece; an older letter that comes late counts nothing."""
         if (house, piece) in self.reports and self.reports[(house, piece)][0] > stamp:
             return
         self.reports[(house, piece)] = (stamp, right)
+        if not right:
+            self.well = {}
         had = self.head.state.had
         if right and piece in had and house not in had[piece]:
             self.head.note_copy(piece, house)
@@ -27,11 +32,15 @@ class Steward:
         """The houses that are known to have had the piece, growing."""
         return sorted(self.head.state.had.get(piece, {}))
 
+    def has_right(self, house, piece):
+        """Whether the house isn't gone and has the piece right, as far as it told."""
+        if house in self.board.away or house not in self.head.state.had.get(piece, {}):
+            return False
+        return not self.is_bent(house, piece)
+
     def right_with(self, piece):
         """The houses that aren't gone and have the piece right, as far as they told."""
-        away = self.board.away
-        houses = [house for house in self.had_by(piece) if house not in away]
-        return [house for house in houses if not self.is_bent(house, piece)]
+        return [house for house in self.had_by(piece) if self.has_right(house, piece)]
 
     def lost_with(self, piece):
         """The houses gone or bent that are known to have had the piece."""
@@ -39,21 +48,30 @@ class Steward:
         return [house for house in self.had_by(piece) if house not in right]
 
     def pass_tick(self):
-        """Ask the piece houses what they have, and have copied what wants copies."""
+        """Have copied what wants copies, and ask the piece houses what is bent."""
         live = self.head.state.live_pieces()
         if not live:
             return
-        for house in self.board.left():
-            self.head.post.send(self.head.name, house, ("audit",))
+        without = len(self.board.away) + len(self.board.leaving)
+        if without != self.without:
+            self.without = without
+            self.well = {}
         for piece in live:
-            self._have_copied(piece)
+            if piece not in self.well:
+                self._have_copied(piece)
+        doubtful = tuple([piece for piece in live if piece not in self.well])
+        for house in self.board.left():
+            self.head.post.send(self.head.name, house, ("audit", doubtful))
 
     def _have_copied(self, piece):
         right = self.right_with(piece)
         staying = self.board.staying()
         good = [house for house in staying if house in right]
         wanted = min(self.board.copies, len(staying)) - len(good)
-        if wanted <= 0 or not right:
+        if wanted <= 0:
+            self.well[piece] = True
+            return
+        if not right:
             return
         others = [house for house in staying if house not in right]
         # In turn, as the one asked first may be down.

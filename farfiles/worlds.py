@@ -48,6 +48,10 @@ class World:
         self.lying = {}
         self.in_step = {name: True for name in HEADS}
         self.era = 0
+        # The pieces that were seen to have copies enough, by the head of this name and
+        # era, as long as no house is lost, bent or emptied.
+        self.well = {}
+        self.well_by = (HEADS[0], 0)
 
     def ask(self, asker, deed):
         """Ask an asker this deed: the number of the question."""
@@ -129,16 +133,19 @@ class World:
         if house in self.askers:
             raise NoHouse(house)
         self.board.away[house] = True
+        self.well = {}
 
     def bend(self, house):
         """All cells that the piece house keeps are one more from now on."""
         self._check_keeper(house)
         self.keepers[house].bend_all()
+        self.well = {}
 
     def empty(self, house):
         """The piece house gets nothing new from now on, and what it has goes to others."""
         self._check_keeper(house)
         self.board.leaving[house] = True
+        self.well = {}
 
     def is_up(self, house):
         """Whether the house is up."""
@@ -164,11 +171,13 @@ class World:
         """Carry letters and let ticks go on till nothing is left: whether all is well."""
         self._carry_all()
         passed = 0
-        while passed < CALM_TICKS and self._is_something_left():
+        is_left = self._is_something_left()
+        while is_left and passed < CALM_TICKS:
             self._pass_tick()
             self._carry_all()
             passed += 1
-        if self._is_something_left() or not self._are_all_needed_up():
+            is_left = self._is_something_left()
+        if is_left or not self._are_all_needed_up():
             return False
         self._become_calm()
         return True
@@ -222,25 +231,34 @@ class World:
         if any([asker.pending is not None for asker in self.askers.values()]):
             return True
         up = self._heads_up()
-        return self._are_apart(up) or any([self._wants_copies(head) for head in up])
+        if len(up) == 0:
+            return False
+        leader = up[-1] if up[-1].single else up[0]
+        return self._are_apart(up, leader) or self._wants_copies(leader)
 
-    def _are_apart(self, up):
+    def _are_apart(self, up, leader):
         """Whether both heads are up, and one lacks what the other one has."""
         if len(up) < 2:
             return False
-        first, second = up
-        leader = second if second.single else first
-        return first.log != second.log or leader.settled < len(leader.log)
+        return up[0].log != up[1].log or leader.settled < len(leader.log)
 
     def _wants_copies(self, head):
         """Whether cells that aren't lost have too few copies, or unknown ones."""
+        if self.well_by != (head.name, head.era):
+            self.well_by = (head.name, head.era)
+            self.well = {}
         for piece in head.state.live_pieces():
-            right = [name for name in self.board.left() if self.keepers[name].is_right(piece)]
-            known = head.state.had[piece]
-            good = [name for name in self.board.staying() if name in right and name in known]
-            if right and len(good) < self.board.wanted():
-                return True
+            if piece not in self.well:
+                if self._wants_copy(piece, head.state.had[piece]):
+                    return True
+                self.well[piece] = True
         return False
+
+    def _wants_copy(self, piece, known):
+        """Whether the piece isn't lost, but too few houses, known to have it, have it right."""
+        right = [name for name in self.board.left() if self.keepers[name].is_right(piece)]
+        good = [name for name in self.board.staying() if name in right and name in known]
+        return len(right) > 0 and len(good) < self.board.wanted()
 
     def _are_all_needed_up(self):
         if any([name in self.lying for name in self.board.left()]):
