@@ -90,8 +90,8 @@ class Head:
                 self.clerk.hear(source, text[1], text[2])
         elif word == "log":
             self._take_log(text[1], text[2], text[3], text[4], text[5])
-        elif word == "have" or word == "spans":
-            self._take_count(word, text[1], text[2])
+        elif word == "have":
+            self._take_count(text[1], text[2])
         else:
             self._take_report(source, word, text)
 
@@ -125,13 +125,12 @@ class Head:
         if era > self.era:
             self._begin(era, self.peer, False)
         self._strike_stale(total)
-        fits = start == 0 or (start <= len(self.log) and self.log[start - 1].era == ahead)
-        if not fits:
-            text = ("spans", self.era, _spans(self.log))
-            self.post.send(self.name, self.peer, text)
-            return
-        self._adopt(start, rows)
-        self.post.send(self.name, self.peer, ("have", self.era, start + len(rows)))
+        many = 0
+        if start == 0 or (start <= len(self.log) and self.log[start - 1].era == ahead):
+            self._adopt(start, rows)
+            many = start + len(rows)
+        # Where the rows don't fit, all are asked for from the first one on.
+        self.post.send(self.name, self.peer, ("have", self.era, many))
 
     def _strike_stale(self, total):
         """Strike rows of older eras where the leader writes, or will write, its own."""
@@ -153,11 +152,10 @@ class Head:
         for at, row in enumerate(self.log, start=1):
             self.state.apply(at, row)
 
-    def _take_count(self, word, era, told):
+    def _take_count(self, era, many):
         """Learn how many rows the other head has."""
         if era != self.era or not self.leads():
             return
-        many = told if word == "have" else _alike(_spans(self.log), told)
         self.shared = max(self.shared, many)
         self.is_shared_known = True
         if not self.single:
@@ -179,26 +177,3 @@ class Head:
             for piece, told in text[3]:
                 self.steward.note(house, piece, text[1], told is not None)
             self.clerk.note_found(house, text[2], text[3])
-
-
-def _spans(log):
-    """Up to which row each era goes in the log: (ERA, END)."""
-    spans = []
-    for at, row in enumerate(log, start=1):
-        if spans and spans[-1][0] == row.era:
-            spans[-1] = (row.era, at)
-        else:
-            spans.append((row.era, at))
-    return tuple(spans)
-
-
-def _alike(spans, others):
-    """How many first rows two logs of these spans have alike."""
-    many = 0
-    for (era, end), (other, last) in zip(spans, others):
-        if era != other:
-            break
-        many = min(end, last)
-        if end != last:
-            break
-    return many

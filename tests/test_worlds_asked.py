@@ -304,6 +304,21 @@ class LettersTest(WorldCase):
         self.assertEqual(len(seen), len(set(seen)))
 
 
+class QuietTest(WorldCase):
+    def test_where_nothing_is_left_no_letters_are_sent(self):
+        world = World(("ann", "bob"))
+        self.asked(world, "a0", "folder", ("d",))
+        self.asked(world, "a1", "look", ("d",))
+        world.tick(50)
+        self.assertEqual(world.letters(), ())
+
+    def test_what_waits_long_fills_no_bags(self):
+        world = World(("ann", "bob"))
+        world.ask("a0", ("folder", ("d",)))
+        world.tick(200)
+        self.assertLess(len(world.letters()), 20)
+
+
 class TicksTest(WorldCase):
     def test_ticks(self):
         world = World(("ann",))

@@ -134,6 +134,15 @@ class ReadTest(WorldCase):
         self.carry_all(world)
         self.assertEqual(world.answer(question)[0], DONE)
 
+    def test_lost_without_a_tick_where_all_houses_are_heard(self):
+        world = self.with_file()
+        for at in range(3):
+            world.bend(f"p{at}")
+        question = world.ask("a1", ("read", ("x",)))
+        now = world.now()
+        self.carry_all(world)
+        self.assertEqual((world.answer(question)[0][0], world.now()), ("lost", now))
+
     def test_all_houses_gone(self):
         world = self.with_file(pieces=2, copies=2)
         world.gone("p0")
@@ -206,6 +215,121 @@ class ReadTest(WorldCase):
                 self.assertEqual(told, (1, 2, 3))
             else:
                 self.assertEqual((word, list(told)), ("lost", sorted(set(told) & {"p0", "p1", "p2"})))
+
+
+class FallenAskerTest(WorldCase):
+    """What an asker asked ahead of a fall doesn't mix with what it asks behind it."""
+
+    def with_two_files(self):
+        world = self.with_file()
+        self.done(world, "a0", "file", ("y",))
+        self.done(world, "a0", "write", ("y",), None, (7, 8, 9, 10))
+        self.assertIs(world.calm(), True)
+        return world
+
+    def asked_anew(self, world, first, second):
+        """The answer to the second deed, the first one's asker fell while it waited."""
+        for at in range(3):
+            world.fall(f"p{at}")
+        self.waits(world, "a0", *first)
+        world.fall("a0")
+        world.rise("a0")
+        question = self.waits(world, "a0", *second)
+        for at in range(3):
+            world.rise(f"p{at}")
+        for _ in range(3):
+            self.carry_all(world)
+            world.tick()
+        return world.answer(question)[0]
+
+    def test_two_readings(self):
+        world = self.with_two_files()
+        told = self.asked_anew(world, ("read", ("x",)), ("read", ("y",)))
+        self.assertEqual(told, ("told", (7, 8, 9, 10)))
+        self.assertIs(world.calm(), True)
+
+    def test_two_writes(self):
+        world = self.with_two_files()
+        told = self.asked_anew(world, ("write", ("x",), None, (4,)), ("write", ("y",), 0, (5, 6)))
+        self.assertEqual(told, DONE)
+        self.assertEqual(self.asked(world, "a1", "read", ("y",)), ("told", (5, 6, 9, 10)))
+        self.assertEqual(self.asked(world, "a1", "read", ("x",)), ("told", (1, 2, 3)))
+
+    def test_a_reading_and_a_write(self):
+        world = self.with_two_files()
+        told = self.asked_anew(world, ("read", ("x",)), ("write", ("y",), 0, (5, 6)))
+        self.assertEqual(told, DONE)
+        world = self.with_two_files()
+        told = self.asked_anew(world, ("write", ("y",), 0, (5, 6)), ("read", ("y",)))
+        self.assertEqual(told, ("told", (7, 8, 9, 10)))
+
+    def test_letters_of_the_first_come_late(self):
+        world = self.with_two_files()
+        for at in range(3):
+            world.fall(f"p{at}")
+        world.ask("a0", ("write", ("x",), None, (4,)))
+        for number, _, _ in world.letters():
+            world.double(number)
+        late = [number for number, _, _ in world.letters()][-2:]
+        for number, _, _ in world.letters():
+            if number not in late:
+                world.carry(number)
+        world.fall("a0")
+        world.rise("a0")
+        question = world.ask("a0", ("read", ("y",)))
+        for _ in range(3):
+            for number, _, _ in world.letters():
+                if number not in late:
+                    world.carry(number)
+            world.tick()
+        for number in late:
+            world.carry(number)
+        for at in range(3):
+            world.rise(f"p{at}")
+        self.assertIs(world.calm(), True)
+        self.assertEqual(world.answer(question)[0], ("told", (7, 8, 9, 10)))
+        # No put of the first behind the second in the order.
+        self.assertEqual(world.order()[-1][4], ("read", ("y",)))
+
+
+    def test_a_calm_ends_what_nobody_waits_for(self):
+        world = self.with_two_files()
+        self.asked(world, "a1", "lease", ("y",), 30)
+        self.waits(world, "a0", "write", ("y",), 0, (5, 6))
+        world.fall("a0")
+        self.assertIs(world.calm(), True)
+        order = world.order()
+        # Else these cells, in no file yet, might be lost one by one, and then be put.
+        world.tick(35)
+        self.carry_all(world)
+        self.assertEqual(world.order(), order)
+        self.assertEqual(self.asked(world, "a1", "read", ("y",)), ("told", (7, 8, 9, 10)))
+
+
+class UnknownCopyTest(WorldCase):
+    def test_a_copy_that_no_head_heard_of(self):
+        """Of two houses that kept the cells, only one could tell so ahead of its loss."""
+        world = self.with_file(data=None, pieces=2, copies=1)
+        world.fall("p0")
+        world.fall("p1")
+        question = world.ask("a0", ("write", ("x",), None, (5, 6)))
+        self.carry_all(world)
+        world.rise("p0")
+        world.rise("p1")
+        told = []
+        for _ in range(3):
+            world.tick()
+            for _ in range(40):
+                for number, source, target in world.letters():
+                    if source[0] == "p":
+                        told.append(source)
+                    # Only one house is heard.
+                    silent = source[0] == "p" and source != told[0]
+                    (world.lose if silent else world.carry)(number)
+        self.assertEqual(world.answer(question)[0], DONE)
+        self.assertEqual(set(told), {"p0", "p1"})
+        world.gone(told[0])
+        self.assertEqual(self.asked(world, "a1", "read", ("x",)), ("told", (5, 6)))
 
 
 class CopyTest(WorldCase):

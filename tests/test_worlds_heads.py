@@ -88,6 +88,54 @@ class TwoHeadsTest(WorldCase):
         self.assertEqual(len(world.order()), 1)
 
 
+class ApartTest(WorldCase):
+    """Deeds that h0 wrote down, but that the other head never got."""
+
+    def with_rows_of_one(self, many):
+        world = World(("ann", "bob", "eve", "root"))
+        for at in range(many):
+            world.ask(f"a{at}", ("file", ("x" * (at + 1),)))
+        for number, _, target in world.letters():
+            (world.carry if target == "h0" else world.lose)(number)
+        for number, _, _ in world.letters():
+            world.lose(number)
+        for at in range(many):
+            world.fall(f"a{at}")
+            world.rise(f"a{at}")
+        world.fall("h0")
+        self.assertIs(world.alone(), True)
+        return world
+
+    def test_they_are_dropped_where_the_other_one_went_on(self):
+        for many in (1, 2, 3):
+            for asked in (0, 1, 2, 3):
+                world = self.with_rows_of_one(many)
+                for at in range(asked):
+                    self.done(world, "a3", "folder", ("d" * (at + 1),))
+                world.rise("h0")
+                self.assertIs(world.calm(), True)
+                world.gone("h1")
+                self.assertIs(world.alone(), True)
+                names = [name for name, _ in self.asked(world, "a3", "list", ())[1]]
+                self.assertEqual(names, ["d" * (at + 1) for at in range(asked)])
+                words = [row[4][0] for row in world.order()]
+                self.assertEqual(words, ["folder"] * asked + ["list"])
+
+    def test_without_one_alone_they_may_be_settled_in_the_end(self):
+        world = World(("ann",))
+        world.ask("a0", ("file", ("x",)))
+        for number, _, target in world.letters():
+            (world.carry if target == "h0" else world.lose)(number)
+        for number, _, _ in world.letters():
+            world.lose(number)
+        self.assertEqual(world.order(), ())
+        world.fall("h0")
+        world.rise("h0")
+        self.assertIs(world.calm(), True)
+        self.assertEqual(world.answer(0)[0], DONE)
+        self.assertEqual(len(world.order()), 1)
+
+
 class AloneTest(WorldCase):
     def test_not_while_both_are_up_or_none(self):
         world = World(("ann",))
