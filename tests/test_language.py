@@ -113,6 +113,45 @@ class LanguageTest(unittest.TestCase):
         for path, node in nodes((ast.BinOp, ast.AugAssign)):
             self.assertNotIsInstance(node.op, ast.Div, (path, node.lineno))
 
+    def test_no_variable_has_the_name_of_a_class_or_an_import_of_its_file(self):
+        for path, tree in trees():
+            taken = {row.name for row in tree.body if isinstance(row, ast.ClassDef)}
+            for row in tree.body:
+                if isinstance(row, ast.ImportFrom):
+                    taken |= {alias.name for alias in row.names}
+            for node in ast.walk(tree):
+                if isinstance(node, ast.arg):
+                    self.assertNotIn(node.arg, taken, (path, node.lineno))
+                elif isinstance(node, ast.Name) and isinstance(node.ctx, ast.Store):
+                    self.assertNotIn(node.id, taken, (path, node.lineno))
+
+    def test_attributes_are_assigned_through_local_names(self):
+        for path, node in nodes(ast.Attribute):
+            if isinstance(node.ctx, ast.Store):
+                self.assertIsInstance(node.value, ast.Name, (path, node.lineno))
+
+    def test_no_name_is_a_method_and_an_attribute(self):
+        methods, attributes = set(), set()
+        for _, node in nodes(ast.ClassDef):
+            methods |= {row.name for row in node.body if isinstance(row, ast.FunctionDef)}
+        for _, node in nodes(ast.Attribute):
+            if isinstance(node.ctx, ast.Store):
+                attributes.add(node.attr)
+        self.assertEqual(methods & attributes, set())
+        for kind in (str, int, list, dict, set, bytes, tuple):
+            self.assertEqual((methods | attributes) & set(dir(kind)), {"__init__"} & methods)
+
+    def test_neither_sets_nor_generators(self):
+        for path, node in nodes((ast.Set, ast.SetComp, ast.GeneratorExp, ast.Yield, ast.Lambda)):
+            self.fail((path, node.lineno))
+
+    def test_is_stands_beside_none_true_and_false_alone(self):
+        for path, node in nodes(ast.Compare):
+            for sign, other in zip(node.ops, node.comparators):
+                if isinstance(sign, (ast.Is, ast.IsNot)):
+                    self.assertIn(getattr(other, "value", 0), (None, True, False), (path, node.lineno))
+                    self.assertIsInstance(other, ast.Constant, (path, node.lineno))
+
 
 if __name__ == "__main__":
     unittest.main()
