@@ -332,6 +332,95 @@ class UnknownCopyTest(WorldCase):
         self.assertEqual(self.asked(world, "a1", "read", ("x",)), ("told", (5, 6)))
 
 
+class LateLetterTest(WorldCase):
+    """Letters to and from piece houses that come when all is otherwise."""
+
+    def between(self, world, sources, targets):
+        """The letters from some kind of houses to some kind."""
+        return [row for row in world.letters() if row[1][0] in sources and row[2][0] in targets]
+
+    def carry_but(self, world, sources, targets):
+        """Carry all letters but those from some kind of houses to some kind."""
+        while True:
+            kept = self.between(world, sources, targets)
+            letters = [row for row in world.letters() if row not in kept]
+            if not letters:
+                return
+            world.carry(letters[0][0])
+
+    def test_cells_that_come_to_a_house_that_is_being_emptied(self):
+        world = self.with_file(data=None, pieces=2, copies=1)
+        question = world.ask("a0", ("write", ("x",), None, (5, 6)))
+        self.carry_but(world, "h", "p")
+        emptied = self.between(world, "h", "p")[0][2]
+        world.empty(emptied)
+        self.carry_all(world)
+        self.assertIsNone(world.answer(question))
+        while world.answer(question) is None:
+            world.tick()
+            self.carry_all(world)
+        world.gone(emptied)
+        self.assertEqual(self.asked(world, "a1", "read", ("x",)), ("told", (5, 6)))
+
+    def test_a_house_is_right_again_and_nobody_heard_of_it(self):
+        world = self.with_file(pieces=2, copies=2)
+        world.bend("p0")
+        for _ in range(3):
+            world.tick()
+            self.carry_all_but_what_p0_kept(world)
+        world.bend("p1")
+        # Now only p0 has the cells right, but told last that they are bent.
+        for _ in range(2):
+            world.tick()
+            for number, source, _ in world.letters():
+                (world.lose if source == "p0" else world.carry)(number)
+        self.assertIs(world.calm(), True)
+        self.assertEqual(self.asked(world, "a1", "read", ("x",)), ("told", (1, 2, 3)))
+        world.gone("p0")
+        self.assertEqual(self.asked(world, "a1", "read", ("x",)), ("told", (1, 2, 3)))
+
+    def carry_all_but_what_p0_kept(self, world):
+        got = False
+        while world.letters():
+            number, source, target = world.letters()[0]
+            got = got or (source, target) == ("p1", "p0")
+            if got and source == "p0":
+                world.lose(number)
+            else:
+                world.carry(number)
+
+    def test_an_old_letter_of_a_bent_house(self):
+        world = self.with_file(pieces=2, copies=2)
+        world.bend("p0")
+        world.tick()
+        self.carry_but(world, "p", "h")
+        late = []
+        for number, _, _ in self.between(world, "p", "h"):
+            world.double(number)
+            late.append(world.letters()[-1][0])
+        for _ in range(5):
+            for number, _, _ in world.letters():
+                if number not in late:
+                    world.carry(number)
+            world.tick()
+        # By now p0 is right again, and has told so.
+        while len(world.letters()) > len(late):
+            world.carry([number for number, _, _ in world.letters() if number not in late][0])
+        self.assertEqual([number for number, _, _ in world.letters()], late)
+        self.carry_all(world)
+        world.fall("p0")
+        world.gone("p1")
+        question = world.ask("a1", ("read", ("x",)))
+        for _ in range(9):
+            for number, _, _ in world.letters():
+                world.carry(number)
+            world.tick()
+        self.assertIsNone(world.answer(question))
+        world.rise("p0")
+        self.assertIs(world.calm(), True)
+        self.assertEqual(world.answer(question)[0], ("told", (1, 2, 3)))
+
+
 class CopyTest(WorldCase):
     def test_copies_come_back(self):
         for word in ("gone", "bend", "empty"):
