@@ -54,17 +54,12 @@ class Core:
 
 
 def trial_of(core):
-    """Another core like this one, to try a deed on."""
+    """Another core like this one but for the snapshots, to try a deed on that may change a sight."""
     trial = Core(core.groups)
     twins = {}
-    trial.clock = core.clock
     trial.top = copied(core.top, twins)
-    trial.made = core.made
     trial.limited = {copied(folder, twins): True for folder in core.limited}
     trial.shares = dict(core.shares)
-    # A snapshot never becomes another, so both may have it.
-    trial.snaps = dict(core.snaps)
-    trial.snapped = dict(core.snapped)
     for number, told in core.promises.items():
         file = copied(told.file, twins)
         trial.promises[number] = Promise(file, told.user, told.place, told.many, told.until)

@@ -230,14 +230,17 @@ class World:
     def _is_something_left(self):
         if any([asker.pending is not None for asker in self.askers.values()]):
             return True
-        up = self._heads_up()
-        if len(up) == 0:
-            return False
-        leader = up[-1] if up[-1].single else up[0]
-        return self._are_apart(up, leader) or self._wants_copies(leader)
+        leader = self._leader()
+        return self._are_apart(leader) or self._wants_copies(leader)
 
-    def _are_apart(self, up, leader):
+    def _leader(self):
+        """The head that goes on alone, or else one that is up, if any is."""
+        alone = [head for head in self.heads if head.single]
+        return [*alone, *self._heads_up(), *self.heads][0]
+
+    def _are_apart(self, leader):
         """Whether both heads are up, and one lacks what the other one has."""
+        up = self._heads_up()
         if len(up) < 2:
             return False
         return up[0].log != up[1].log or leader.settled < len(leader.log)

@@ -469,6 +469,29 @@ class CopyTest(WorldCase):
             self.assertIs(world.calm(), True)
             self.assertEqual(world.answer(question)[0], ("told", (1, 2, 3)))
 
+    def test_a_calm_goes_on_till_a_head_heard_of_each_copy(self):
+        for emptied, other in (("p0", "p1"), ("p1", "p0")):
+            world = self.with_file(pieces=2, copies=1)
+            world.empty(emptied)
+            # Copies may come to the other house, but nothing that it tells comes to a head.
+            for _ in range(4):
+                world.tick()
+                while world.letters():
+                    number, source, _ = world.letters()[0]
+                    (world.lose if source == other else world.carry)(number)
+            self.assertIs(world.calm(), True)
+            world.gone("h0")
+            self.assertIs(world.alone(), True)
+            world.gone(emptied)
+            world.fall(other)
+            question = self.waits(world, "a1", "read", ("x",))
+            world.tick(20)
+            self.carry_all(world)
+            self.assertIsNone(world.answer(question))
+            world.rise(other)
+            self.assertIs(world.calm(), True)
+            self.assertEqual(world.answer(question)[0], ("told", (1, 2, 3)))
+
     def test_calm_tells_false_while_a_piece_house_is_down(self):
         world = self.with_file()
         world.fall("p0")

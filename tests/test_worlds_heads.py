@@ -247,6 +247,20 @@ class CalmTest(WorldCase):
             world.fall(house)
             self.assertIs(world.calm(), wanted, house)
 
+    def test_without_a_head(self):
+        for word in ("fall", "gone"):
+            world = self.with_file()
+            for head in ("h0", "h1"):
+                getattr(world, word)(head)
+            self.assertIs(world.calm(), False)
+            self.assertEqual(world.now(), 0)
+            for house in ("p0", "p1"):
+                world.bend(house)
+            self.assertIs(world.calm(), False)
+            self.assertEqual(world.now(), 300)
+            self.assertIs(world.alone(), False)
+            self.waits(world, "a0", "read", ("x",))
+
     def test_what_is_gone_is_not_down(self):
         world = self.with_file()
         world.fall("p0")

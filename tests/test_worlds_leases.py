@@ -207,6 +207,18 @@ class WaitTest(LeaseCase):
         self.assertEqual(self.by_letters(world, "a1", "cut", ("x",), 9)[0], ("no", "noplace"))
         self.assertEqual(world.now(), 0)
 
+    def test_nor_does_one_that_is_refused_for_room(self):
+        world = self.world()
+        self.done(world, "a0", "limit", ("d",), 2)
+        self.done(world, "a3", "share", "eve", 2)
+        self.lease(world, "a2", ("x",), 30)
+        wide = ("rw", "rw", "rw")
+        self.assertEqual(self.by_letters(world, "a0", "move", ("x",), ("d", "x"))[0], ("no", "noroom"))
+        self.assertEqual(self.by_letters(world, "a3", "rights", ("x",), "eve", "root", wide)[0], ("no", "noroom"))
+        self.lease(world, "a2", ("d",), 30)
+        self.assertEqual(self.by_letters(world, "a0", "link", ("x",), ("d", "x"))[0], ("no", "noroom"))
+        self.assertEqual(world.now(), 0)
+
     def test_what_the_leases_user_does_not_see(self):
         world = self.world()
         self.done(world, "a0", "rights", ("d",), "ann", "root", ("rw", "", ""))
