@@ -19,7 +19,7 @@ class Steward:
             return
         self.reports[(house, piece)] = (stamp, right)
         if not right:
-            self.well = {}
+            self.well.pop(piece, None)
         had = self.head.state.had
         if right and piece in had and house not in had[piece]:
             self.head.note_copy(piece, house)

@@ -44,7 +44,7 @@ class World:
         self.keepers = {}
         for name in self.board.keepers:
             self.keepers[name] = Keeper(name, self.board, self.post)
-        self.houses = {**self.askers, **{head.name: head for head in self.heads}, **self.keepers}
+        self.houses = {**self.askers, HEADS[0]: self.heads[0], HEADS[1]: self.heads[1], **self.keepers}
         self.lying = {}
         self.in_step = {name: True for name in HEADS}
         self.era = 0
@@ -235,8 +235,9 @@ class World:
 
     def _leader(self):
         """The head that goes on alone, or else one that is up, if any is."""
-        alone = [head for head in self.heads if head.single]
-        return [*alone, *self._heads_up(), *self.heads][0]
+        leaders = [head for head in self.heads if head.single]
+        leaders.extend(self._heads_up())
+        return leaders[0] if leaders else self.heads[0]
 
     def _are_apart(self, leader):
         """Whether both heads are up, and one lacks what the other one has."""

@@ -312,6 +312,15 @@ class QuietTest(WorldCase):
         world.tick(50)
         self.assertEqual(world.letters(), ())
 
+    def test_what_was_told_is_not_told_again(self):
+        world = World(("ann", "bob"))
+        world.ask("a0", ("folder", ("d",)))
+        while world.letters():
+            world.carry(world.letters()[0][0])
+        self.assertEqual(world.answer(0)[0], DONE)
+        world.tick(3)
+        self.assertEqual(world.letters(), ())
+
     def test_what_waits_long_fills_no_bags(self):
         world = World(("ann", "bob"))
         world.ask("a0", ("folder", ("d",)))
