@@ -3,19 +3,14 @@
 from farfiles.fillings import filled, wanted_parts
 from farfiles.parts import cells
 
-# For so many ticks a house that isn't known to have had a piece is waited for.
-LONG_ENOUGH = 5
-
 
 class Find:
-    """The cells that an answer wants: which came, and which houses told what they have."""
+    """The cells that an answer wants, and those that came."""
 
-    def __init__(self, question, since, pieces):
+    def __init__(self, question, pieces):
         self.question = question
-        self.since = since
         self.pieces = pieces
         self.found = {}
-        self.heard = {}
 
 
 class Write:
@@ -70,12 +65,11 @@ class Clerk:
                 work.houses[house] = True
         self.push_all()
 
-    def note_found(self, house, question, rows):
-        """The house told of these pieces their cells, None where they aren't right."""
+    def note_found(self, question, rows):
+        """A house told of these pieces their cells, None where they aren't right."""
         for find in list(self.finds.values()):
             if find.question == question:
-                find.heard[house] = True
-                for piece, told in rows:
+                for (piece, _, _), told in rows:
                     if told is not None:
                         find.found[piece] = told
         self.push_all()
@@ -105,7 +99,7 @@ class Clerk:
         answer = self._answer(asker, question, done[0], raw)
         if answer is not None:
             text = ("answer", question, answer, place, when)
-            self.head.post.send(self.head.name, asker, text)
+            self.head.send(asker, text)
             self._drop(asker)
 
     def _is_placed(self, asker, question):
@@ -142,8 +136,9 @@ class Clerk:
     def _send_data(self, work, houses):
         for house in houses:
             if house not in work.houses:
-                text = ("keep", work.number, work.data, self.head.name)
-                self.head.post.send(self.head.name, house, text)
+                ticket = self.head.steward.ticket_for(house, work.number)
+                text = ("keep", self.head.term, work.number, work.data, self.head.name, ticket)
+                self.head.send(house, text)
 
     def _answer(self, asker, question, word, raw):
         """The answer with its cells, None as long as some are missing."""
@@ -153,7 +148,7 @@ class Clerk:
         find = self.finds.get(asker)
         if find is None:
             pieces = sorted({piece: True for piece, _, _ in wanted})
-            find = Find(question, self.board.clock, pieces)
+            find = Find(question, pieces)
             self.finds[asker] = find
             self._ask_cells(find)
         if not _missing(find):
@@ -162,27 +157,24 @@ class Clerk:
         return filled(word, raw, ("lost", lost)) if lost else None
 
     def _ask_cells(self, find):
+        """Ask each house that may have some of what is missing."""
         missing = _missing(find)
         for house in self.board.left():
-            if any([self._may_tell(house, piece, find) for piece in missing]):
-                text = ("fetch", find.question, tuple(missing))
-                self.head.post.send(self.head.name, house, text)
+            if any([not self.head.steward.denies(house, piece) for piece in missing]):
+                self.head.send(house, ("fetch", self.head.term, find.question, tuple(missing)))
 
     def _lost_houses(self, find):
-        """The houses that had what is lost of the cells, none as long as nothing is."""
+        """The houses that had what is lost of the cells, none as long as nothing is.
+
+        Of no piece that some house may have right, whether it's down or its letters
+        don't come, it's told that it is lost.
+        """
         houses = {}
         for piece in _missing(find):
-            if not any([self._may_tell(house, piece, find) for house in self.board.left()]):
+            if all([self.head.steward.denies(house, piece) for house in self.board.left()]):
                 for house in self.head.steward.lost_with(piece):
                     houses[house] = True
         return tuple(sorted(houses))
-
-    def _may_tell(self, house, piece, find):
-        """Whether the house may yet tell the piece's cells."""
-        # It told once that it hasn't them right, but got them since.
-        if self.head.steward.has_right(house, piece):
-            return True
-        return house not in find.heard and self.board.clock - find.since < LONG_ENOUGH
 
 
 def _first_deed(deed):

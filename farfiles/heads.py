@@ -26,6 +26,8 @@ class Head:
         self.era = 0
         self.leader = HEADS[0]
         self.single = False
+        # How often it lost what isn't kept for good; with the era the term it speaks in.
+        self.lives = 0
         self.log = []
         self.state = State(board)
         self.forget()
@@ -33,6 +35,8 @@ class Head:
 
     def forget(self):
         """Lose what isn't kept for good."""
+        self.lives += 1
+        self.term = (self.era, self.lives)
         # How many rows the other head has, at least, and whether there's more to learn.
         self.shared = 0
         self.is_shared_known = False
@@ -59,6 +63,10 @@ class Head:
         self.shared = len(self.log)
         self.is_shared_known = True
         self.settled = len(self.log)
+
+    def send(self, house, text):
+        """Send a letter."""
+        self.post.send(self.name, house, text)
 
     def write(self, asker, question, deed, houses):
         """Write a row behind the log."""
@@ -93,7 +101,7 @@ class Head:
         elif word == "have":
             self._take_count(text[1], text[2])
         else:
-            self._take_report(source, word, text)
+            self._take_report(source, word, text[1], text[2], text[3])
 
     def _begin(self, era, leader, single):
         self.era = era
@@ -116,7 +124,7 @@ class Head:
         rows = tuple(self.log[start:start + BATCH])
         ahead = self.log[start - 1].era if start > 0 else None
         text = ("log", self.era, start, ahead, rows, len(self.log))
-        self.post.send(self.name, self.peer, text)
+        self.send(self.peer, text)
 
     def _take_log(self, era, start, ahead, rows, total):
         """Have these rows behind the first so many, if those are like the leader's."""
@@ -130,7 +138,7 @@ class Head:
             self._adopt(start, rows)
             many = start + len(rows)
         # Where the rows don't fit, all are asked for from the first one on.
-        self.post.send(self.name, self.peer, ("have", self.era, many))
+        self.send(self.peer, ("have", self.era, many))
 
     def _strike_stale(self, total):
         """Strike rows of older eras where the leader writes, or will write, its own."""
@@ -163,17 +171,20 @@ class Head:
         self._pass_on()
         self.clerk.push_all()
 
-    def _take_report(self, house, word, text):
+    def _take_report(self, house, word, term, stamp, told):
         """Learn what a piece house has."""
-        if not self.leads():
+        # What was asked in another term may have become otherwise since.
+        if not self.leads() or term != self.term:
             return
         if word == "kept":
-            self.clerk.note_kept(house, text[2])
-            self.steward.note(house, text[2], text[1], True)
+            self.clerk.note_kept(house, told[0])
+            self.steward.note(house, stamp, told)
         elif word == "state":
-            for piece, right in text[2]:
-                self.steward.note(house, piece, text[1], right)
+            for row in told:
+                self.steward.note(house, stamp, row)
+            self.clerk.push_all()
         elif word == "found":
-            for piece, told in text[3]:
-                self.steward.note(house, piece, text[1], told is not None)
-            self.clerk.note_found(house, text[2], text[3])
+            question, rows = told
+            for row, _ in rows:
+                self.steward.note(house, stamp, row)
+            self.clerk.note_found(question, rows)

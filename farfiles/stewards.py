@@ -1,46 +1,57 @@
 """What a head knows of the copies, and how it has more of them made."""
 
+from farfiles.keepers import BENT, RIGHT
+
 
 class Steward:
-    """Which houses told last that a piece is right with them or bent; forgotten with a fall."""
+    """How the piece houses told last that pieces stand with them; forgotten with a fall."""
 
     def __init__(self, head):
         self.head = head
         self.board = head.board
-        # For a house and a piece the stamp of the newest letter, and whether it's right.
+        # For a house and a piece: (STAMP, HOW, TICKET) of the newest letter.
         self.reports = {}
+        # For a house and a piece the newest ticket by which cells were sent there.
+        self.ordered = {}
         # The pieces that have copies enough, with so many houses gone or being emptied.
         self.well = {}
         self.without = 0
 
-    def note(self, house, piece, stamp, right):
+    def note(self, house, stamp, row):
         """The house told so of the piece; an older letter that comes late counts nothing."""
+        piece, how, ticket = row
         if (house, piece) in self.reports and self.reports[(house, piece)][0] > stamp:
             return
-        self.reports[(house, piece)] = (stamp, right)
-        if not right:
+        self.reports[(house, piece)] = (stamp, how, ticket)
+        if how == BENT:
             self.well.pop(piece, None)
         had = self.head.state.had
-        if right and piece in had and house not in had[piece]:
+        # What is bent it had, too.
+        if how in (RIGHT, BENT) and piece in had and house not in had[piece]:
             self.head.note_copy(piece, house)
 
-    def is_bent(self, house, piece):
-        """Whether the house told last that it hasn't the piece right."""
-        return (house, piece) in self.reports and not self.reports[(house, piece)][1]
+    def ticket_for(self, house, piece):
+        """The ticket by which cells of the piece, that are sent now, are taken there."""
+        ticket = 0
+        if (house, piece) in self.reports:
+            ticket = self.reports[(house, piece)][2]
+        self.ordered[(house, piece)] = max(ticket, self.ordered.get((house, piece), 0))
+        return ticket
+
+    def denies(self, house, piece):
+        """Whether the house told that it hasn't the piece right, and can't have got it since."""
+        if not self._told_otherwise(house, piece):
+            return False
+        return self.reports[(house, piece)][2] > self.ordered.get((house, piece), -1)
 
     def had_by(self, piece):
         """The houses that are known to have had the piece, growing."""
         return sorted(self.head.state.had.get(piece, {}))
 
-    def has_right(self, house, piece):
-        """Whether the house isn't gone and has the piece right, as far as it told."""
-        if house in self.board.away or house not in self.head.state.had.get(piece, {}):
-            return False
-        return not self.is_bent(house, piece)
-
     def right_with(self, piece):
         """The houses that aren't gone and have the piece right, as far as they told."""
-        return [house for house in self.had_by(piece) if self.has_right(house, piece)]
+        left = [house for house in self.had_by(piece) if house not in self.board.away]
+        return [house for house in left if not self._told_otherwise(house, piece)]
 
     def lost_with(self, piece):
         """The houses gone or bent that are known to have had the piece."""
@@ -61,7 +72,11 @@ class Steward:
                 self._have_copied(piece)
         doubtful = tuple([piece for piece in live if piece not in self.well])
         for house in self.board.left():
-            self.head.post.send(self.head.name, house, ("audit", doubtful))
+            self.head.send(house, ("audit", self.head.term, doubtful))
+
+    def _told_otherwise(self, house, piece):
+        """Whether the house told last that it hasn't the piece right."""
+        return (house, piece) in self.reports and self.reports[(house, piece)][1] != RIGHT
 
     def _have_copied(self, piece):
         right = self.right_with(piece)
@@ -78,4 +93,5 @@ class Steward:
         source = right[self.board.clock % len(right)]
         for at in range(wanted):
             target = others[(self.board.clock + at) % len(others)]
-            self.head.post.send(self.head.name, source, ("copy", piece, target))
+            ticket = self.ticket_for(target, piece)
+            self.head.send(source, ("copy", self.head.term, piece, target, ticket))

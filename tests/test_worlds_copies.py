@@ -169,12 +169,15 @@ class ReadTest(WorldCase):
         self.assertIs(world.calm(), True)
         self.assertEqual(world.told()[-1][3], ("lost", ("p0", "p1")))
 
-    def test_a_house_that_never_had_them_is_not_waited_for(self):
+    def test_a_house_that_never_had_them_is_waited_for_till_it_tells_so(self):
         world = self.with_file(data=None, pieces=2, copies=1)
         world.fall("p1")
         self.done(world, "a0", "write", ("x",), None, (5,))
         world.bend("p0")
-        self.assertEqual(self.asked(world, "a1", "read", ("x",)), ("lost", ("p0",)))
+        question = self.waits(world, "a1", "read", ("x",))
+        world.rise("p1")
+        self.assertIs(world.calm(), True)
+        self.assertEqual(world.answer(question)[0], ("lost", ("p0",)))
 
     def test_what_is_told_as_lost(self):
         world = self.with_file(("root", "bob"), pieces=1, copies=1)

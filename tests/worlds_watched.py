@@ -1,8 +1,11 @@
 """A World that is watched: all that it tells is held against a plain Tree.
 
-Nothing here looks into the World; all is taken from what its methods tell.
+Nothing here looks into the World; all is taken from what its methods tell. Only
+which pieces a reading is of is looked up in a tree without cells of its own.
 """
 
+from farfiles.cores import Core
+from farfiles.fillings import wanted_parts
 from farfiles.sizes import BOUND, MOST
 from farfiles.trees import Tree
 from farfiles.worlds import World
@@ -60,6 +63,11 @@ def is_lost(told, wanted):
     return told[0] == "lost" and houses and list(houses) == sorted(set(houses))
 
 
+def has_lost(answer, deed):
+    """Whether the answer, or the second one of its sight, tells of lost cells."""
+    return (answer[1][0][1] if deed[0] == "lease" else answer)[0] == "lost"
+
+
 def part_of(asked, row):
     """Whether a row of the order may be of a question that was asked so."""
     if asked[0] == "write":
@@ -92,6 +100,8 @@ class Watched:
         self.heads_lossy = False
         self.asked = []
         self.told_at_ask = []
+        # For each question the questions that were told as lost when it was asked.
+        self.lost_at_ask = []
         self.open = {}
         self.fallen = set()
         # For each asker, since it is up: (QUESTION, DEED) asked.
@@ -107,10 +117,12 @@ class Watched:
         wanted = self.at_once(asker, deed)
         by_lease = deed[0] != "glance" or self.of_old(asker, deed[1]) is None
         told_ahead = max([row[4] for row in world.told()], default=0)
+        lost_ahead = [row[0] for row in world.told() if has_lost(row[3], row[2])]
         question = world.ask(asker, deed)
         self.case.assertEqual(question, len(self.asked))
         self.asked.append((asker, deed))
         self.told_at_ask.append(told_ahead)
+        self.lost_at_ask.append(lost_ahead)
         self.since_up[asker].append((question, deed))
         if wanted is None:
             self.case.assertIsNone(world.answer(question), deed)
@@ -291,6 +303,7 @@ class Watched:
         self.order_seen, self.told_seen = order, told
         answers, until = self.check_order(order)
         self.check_told(order, told, answers, until)
+        self.check_lost_stays(order, told)
 
     def check_order(self, order):
         """The answers of a plain tree; the order's own rules; and the leases'."""
@@ -369,11 +382,26 @@ class Watched:
         case.assertEqual(late, {})
 
     def check_lost(self, answer, deed):
-        if deed[0] == "lease":
-            answer = answer[1][0][1]
-        if answer[0] == "lost":
+        if has_lost(answer, deed):
+            answer = answer[1][0][1] if deed[0] == "lease" else answer
             self.case.assertTrue(self.lossy, (deed, answer))
             self.case.assertLessEqual(set(answer[1]), self.lost | self.ever_bent)
+
+    def check_lost_stays(self, order, told):
+        """What was told as lost was lost: it isn't told behind that."""
+        core = Core(self.groups)
+        pieces = {}
+        for at, tick, who, _, done in order:
+            short = ("put", done[1], len(done[2])) if done[0] == "put" else done
+            wanted = wanted_parts(done[0], core.act(tick, self.user(who), short))
+            pieces[at] = {piece for piece, _, _ in wanted or ()}
+        settled = {row[3] for row in order}
+        lost = {row[0]: pieces[row[4]] for row in told if has_lost(row[3], row[2])}
+        for question, _, deed, answer, at, _, _ in told:
+            if question in settled and question not in lost:
+                for ahead in self.lost_at_ask[question]:
+                    missing = ahead in settled and lost[ahead] <= pieces[at]
+                    self.case.assertFalse(missing, (ahead, question, deed, answer))
 
 
 NAMES = ("a", "b", "c")
@@ -408,6 +436,10 @@ class Kind:
     def houses(self, watched):
         return watched.houses
 
+    def fate(self, draw, source):
+        """What becomes of a letter that nothing bad happens to otherwise."""
+        return "carry"
+
 
 class Cells(Kind):
     def houses(self, watched):
@@ -419,9 +451,17 @@ class Heads(Kind):
         return watched.heads
 
 
+class Unheard(Cells):
+    """Much of what piece houses send is lost."""
+
+    def fate(self, draw, source):
+        return "lose" if source[0] == "p" and draw.chance(60) else "carry"
+
+
 KINDS = {
     "all": Kind(WORDS, 60, 70), "leases": Kind(LEASE_WORDS, 90, 100),
     "cells": Cells(CELL_WORDS, 90, 30), "heads": Heads(WORDS, 80, 97),
+    "unheard": Unheard(CELL_WORDS, 90, 45),
 }
 
 
@@ -478,24 +518,24 @@ def drawn_step(watched, draw, harm, kind):
         if asker not in watched.down and asker not in watched.open:
             watched.ask(asker, drawn_deed(draw, watched.users + ("root",), kind))
     elif roll < 80:
-        drawn_letter(watched, draw, harm)
+        drawn_letter(watched, draw, harm, kind)
     elif roll < 90:
         watched.step("tick", 1 + draw.below(draw.one((2, 2, 2, 30))))
     elif roll < 93:
-        for number, _, _ in watched.world.letters():
-            watched.step("carry", number)
+        for number, source, _ in watched.world.letters():
+            watched.step(kind.fate(draw, source), number)
     elif draw.chance(harm):
         drawn_harm(watched, draw, kind)
     else:
         drawn_help(watched, draw)
 
 
-def drawn_letter(watched, draw, harm):
+def drawn_letter(watched, draw, harm, kind):
     letters = watched.world.letters()
     if letters:
         oldest = letters[:1 + draw.below(6)]
-        number = draw.one(letters if draw.chance(30) else oldest)[0]
-        word = "carry" if draw.chance(100 - harm) else draw.one(("lose", "double"))
+        number, source, _ = draw.one(letters if draw.chance(30) else oldest)
+        word = kind.fate(draw, source) if draw.chance(100 - harm) else draw.one(("lose", "double"))
         watched.step(word, number)
 
 
