@@ -1,6 +1,7 @@
 """Folders and files, how they are come to, and who may do what to them."""
 
 from farfiles.sizes import ROOT
+from farfiles.words import MOST_NAMES, is_path
 
 # The answer to a deed that tells nothing.
 DONE = ("done",)
@@ -18,6 +19,7 @@ class Folder:
     """A folder: whose it is, what stands in it, and its limit, if any."""
 
     def __init__(self, owner, group, rights):
+        self.kind = "folder"
         self.owner = owner
         self.group = group
         self.rights = rights
@@ -29,9 +31,12 @@ class File:
     """A file: whose it is, its parts, and how many cells are promised to it."""
 
     def __init__(self, owner, group, rights):
+        self.kind = "file"
         self.owner = owner
         self.group = group
         self.rights = rights
+        # Only a folder has names.
+        self.names = None
         self.parts = ()
         self.size = 0
         self.promised = 0
@@ -51,17 +56,37 @@ def lets(members, user, sign, node):
     return sign in others
 
 
-def come_to(members, top, path, user):
-    """What the path names, gone along from the top by the user."""
+def gone_along(members, top, path, user):
+    """What the path names, gone along from the top by the user; else the word of a refusal.
+
+    Of any thing that is no PATH None: a name that is there is a WORD, so each is
+    looked at by itself only where the way ends ahead of the path.
+    """
+    if not isinstance(path, tuple) or len(path) > MOST_NAMES:
+        return None
     node = top
     for name in path:
-        if not isinstance(node, Folder):
-            raise Refused("nofolder")
-        if not lets(members, user, "r", node):
-            raise Refused("noright")
-        if name not in node.names:
-            raise Refused("nothere")
-        node = node.names[name]
+        if not isinstance(name, str):
+            return None
+        names = node.names
+        if names is None:
+            word = "nofolder"
+        elif user != ROOT and not lets(members, user, "r", node):
+            word = "noright"
+        elif name not in names:
+            word = "nothere"
+        else:
+            node = names[name]
+            continue
+        return word if is_path(path) else None
+    return node
+
+
+def come_to(members, top, path, user):
+    """What the path names, gone along from the top by the user."""
+    node = gone_along(members, top, path, user)
+    if isinstance(node, str):
+        raise Refused(node)
     return node
 
 

@@ -45,12 +45,10 @@ def cells(parts, pieces):
     """The cells of the parts, by a dict of the cells of each piece."""
     if not is_parts(parts):
         raise NoParts(parts)
-    found = []
     for piece, first, many in parts:
         if piece not in pieces or first + many > len(pieces[piece]):
             raise NoPiece(piece)
-        found.extend(pieces[piece][first:first + many])
-    return tuple(found)
+    return tuple(gathered(parts, pieces))
 
 
 def spliced(parts, more, place):
@@ -63,6 +61,17 @@ def spliced(parts, more, place):
 def shortened(parts, many):
     """What cut tells, of parts and a number that are surely such."""
     return _joined(_first_cells(parts, many))
+
+
+def gathered(parts, pieces):
+    """What cells tells, of parts and pieces that surely have them."""
+    if len(parts) == 1:
+        piece, first, many = parts[0]
+        return pieces[piece][first:first + many]
+    found = []
+    for piece, first, many in parts:
+        found.extend(pieces[piece][first:first + many])
+    return tuple(found)
 
 
 def _is_part(thing):

@@ -3,8 +3,8 @@
 Cells are told as ("cells", PARTS): who keeps the pieces puts the cells in.
 """
 
-from farfiles.nodes import DONE, Folder, Refused, come_to, copied, files_below, folder_at
-from farfiles.nodes import must_let, must_own
+from farfiles.nodes import DONE, Folder, Refused, copied, files_below, folder_at, gone_along
+from farfiles.nodes import lets, must_own
 
 
 def telling_deed(core, user, deed):
@@ -13,63 +13,61 @@ def telling_deed(core, user, deed):
     return action(core, user, deed)
 
 
+def told_of_path(core, user, deed):
+    """Answer a read, list, look or old; None of any thing that is no such deed."""
+    if not isinstance(deed, tuple) or not 2 <= len(deed) <= 3:
+        return None
+    word, path, top = deed[0], deed[-1], core.top
+    if len(deed) == 3:
+        name = deed[1]
+        if word != "old" or not isinstance(name, str):
+            return None
+        # A name that isn't taken may be no WORD: this is left to who asks.
+        if name not in core.snaps:
+            return None
+        top = core.snaps[name]
+    elif word not in PATH_WORDS:
+        return None
+    node = gone_along(core.members, top, path, user)
+    if node is None:
+        return None
+    if isinstance(node, str):
+        return ("no", node)
+    if word == "look":
+        return ("told", _looked(node))
+    return _told_of(core, user, node, word)
+
+
 def sight_of(core, user, path):
     """What look tells of the path, and what read or list does."""
-    try:
-        node = come_to(core.members, core.top, path, user)
-    except Refused as refusal:
-        answer = ("no", refusal.word)
+    node = gone_along(core.members, core.top, path, user)
+    if isinstance(node, str):
+        answer = ("no", node)
         return (answer, answer)
-    return (("told", _looked(node)), _told_or_no(core, user, node))
-
-
-def _told_or_no(core, user, node):
-    try:
-        return _told_of(core, user, node)
-    except Refused as refusal:
-        return ("no", refusal.word)
+    return (("told", _looked(node)), _told_of(core, user, node, None))
 
 
 def _looked(node):
-    if isinstance(node, Folder):
-        return ("folder", node.owner, node.group, node.rights, len(node.names))
-    return ("file", node.owner, node.group, node.rights, node.size)
+    size = node.size if node.names is None else len(node.names)
+    return (node.kind, node.owner, node.group, node.rights, size)
 
 
-def _told_of(core, user, node):
-    """What read tells of a file, list of a folder."""
-    if isinstance(node, Folder):
-        return _listed(core, user, node)
-    return _cells_of(core, user, node)
+def _told_of(core, user, node, word):
+    """What read tells of a file, list of a folder; each of these words of the other one no."""
+    names = node.names
+    if names is None and word == "list":
+        return ("no", "nofolder")
+    if names is not None and word == "read":
+        return ("no", "nofile")
+    if not lets(core.members, user, "r", node):
+        return ("no", "noright")
+    if names is None:
+        return ("cells", node.parts)
+    return ("told", tuple([(name, names[name].kind) for name in sorted(names)]))
 
 
-def _cells_of(core, user, file):
-    must_let(core, user, "r", file)
-    return ("cells", file.parts)
-
-
-def _listed(core, user, folder):
-    must_let(core, user, "r", folder)
-    return ("told", tuple([(name, _kind(folder.names[name])) for name in sorted(folder.names)]))
-
-
-def _kind(node):
-    return "folder" if isinstance(node, Folder) else "file"
-
-
-def _read(core, user, deed):
-    node = come_to(core.members, core.top, deed[1], user)
-    if isinstance(node, Folder):
-        raise Refused("nofile")
-    return _cells_of(core, user, node)
-
-
-def _list(core, user, deed):
-    return _listed(core, user, folder_at(core, user, deed[1]))
-
-
-def _look(core, user, deed):
-    return ("told", _looked(come_to(core.members, core.top, deed[1], user)))
+def _path_deed(core, user, deed):
+    return told_of_path(core, user, deed)
 
 
 def _sight(core, user, deed):
@@ -99,13 +97,14 @@ def _snap(core, user, deed):
 
 
 def _old(core, user, deed):
-    _, name, path = deed
-    if name not in core.snaps:
+    if deed[1] not in core.snaps:
         raise Refused("nosnap")
-    return _told_of(core, user, come_to(core.members, core.snaps[name], path, user))
+    return told_of_path(core, user, deed)
 
+
+PATH_WORDS = ("read", "list", "look")
 
 ACTIONS = {
-    "read": _read, "list": _list, "look": _look, "sight": _sight,
-    "lease": _lease, "back": _back, "snap": _snap, "old": _old,
+    "read": _path_deed, "list": _path_deed, "look": _path_deed, "old": _old,
+    "sight": _sight, "lease": _lease, "back": _back, "snap": _snap,
 }

@@ -20,9 +20,13 @@ def is_word(thing):
 
 def is_path(thing):
     """Whether this is a PATH: a tuple of none to six WORDs."""
-    if not isinstance(thing, tuple):
+    if not isinstance(thing, tuple) or len(thing) > MOST_NAMES:
         return False
-    return len(thing) <= MOST_NAMES and all([is_word(name) for name in thing])
+    for name in thing:
+        if not isinstance(name, str) or not 1 <= len(name) <= MOST_LETTERS:
+            return False
+    # One look at the letters of all costs much less than one look at each.
+    return not "".join(thing).strip(LETTERS)
 
 
 def is_rights(thing):
@@ -89,7 +93,6 @@ def _is_users(thing):
         if not isinstance(user, str) or user <= ahead or len(user) > MOST_LETTERS:
             return False
         ahead = user
-    # One look at the letters of all costs much less than one look at each.
     return not "".join(thing).strip(LETTERS)
 
 

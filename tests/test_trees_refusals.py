@@ -123,6 +123,51 @@ class RefusalsTest(unittest.TestCase):
             self.assertEqual(tree.do(*row), other.do(*row))
         self.assertEqual(tree.do(41, "ann", ("read", ("x",))), ("told", (7, 8)))
 
+    def test_no_deed_wherever_its_way_ends(self):
+        """A way that ends at a name doesn't let pass what stands behind it."""
+        tree = Tree((("staff", ("ann",)),))
+        for deed in (("folder", ("d",)), ("file", ("d", "x")), ("folder", ("e",)), ("snap", (), "s"),
+                     ("rights", ("e",), "ann", "staff", ("", "", ""))):
+            self.assertEqual(tree.do(0, "ann" if deed[0] != "snap" else "root", deed), ("done",))
+        ways = (("d",), ("d", "x"), ("none",), ("d", "none"), ("e",), ("e", "x"), ("d", "x", "y"), ())
+        for user in ("root", "ann", "bob"):
+            for way in ways:
+                good = (("read", way), ("list", way), ("look", way), ("old", "s", way), ("old", "none", way))
+                told = [tree.do(0, user, deed) for deed in good]
+                for bad in (7, None, True, "", "Ab", "a b", "abcdefghi", "x\n", ("X",), ["x"], {}, b"x"):
+                    for path in (way + (bad,), (bad,) + way, way + ("x", bad), way + (bad, "x")):
+                        for deed in (("read", path), ("list", path), ("look", path),
+                                     ("old", "s", path), ("old", "none", path)):
+                            self.refused(lambda: tree.do(0, user, deed), NoDeed, "deed", deed)
+                    for deed in (("old", bad, way), ("read", way, bad), ("look", bad), (bad, way), (bad, "s", way)):
+                        self.refused(lambda: tree.do(0, user, deed), NoDeed, "deed", deed)
+                for path in (list(way), way + ("x",) * 7, "d", {"d": 1}):
+                    deed = ("look", path)
+                    self.refused(lambda: tree.do(0, user, deed), NoDeed, "deed", deed)
+                self.assertEqual([tree.do(0, user, deed) for deed in good], told)
+
+    def test_refused_at_every_call_whatever_was_handed_in_ahead(self):
+        tree = Tree()
+        deed = ("list", ())
+        for _ in range(3):
+            self.assertEqual(tree.do(5, "ann", deed), ("told", ()))
+            self.refused(lambda: tree.do(4, "ann", deed), NoTick, "when", 4)
+            self.refused(lambda: tree.do(True, "ann", deed), NoTick, "when", True)
+            self.refused(lambda: tree.do(5, "Ann", deed), NoWord, "word", "Ann")
+            self.refused(lambda: tree.do(5, None, deed), NoWord, "word", None)
+            for bad in (["list", ()], ("list", []), ("list",), ("list", (), ())):
+                self.refused(lambda: tree.do(5, "ann", bad), NoDeed, "deed", bad)
+
+    def test_a_deed_that_only_tells_lets_ticks_go_on(self):
+        tree = Tree()
+        tree.do(0, "ann", ("file", ("x",)))
+        tree.do(0, "ann", ("promise", ("x",), None, 2))
+        for at, deed in enumerate((("read", ("x",)), ("list", ()), ("look", ("none",)), ("old", "s", ()))):
+            tree.do(50 + at, "ann", deed)
+            self.refused(lambda: tree.do(49 + at, "ann", deed), NoTick, "when", 49 + at)
+        self.assertEqual(tree.do(53, "ann", ("use", ())), ("told", (0, None)))
+        self.assertEqual(tree.do(53, "ann", ("put", 1, (1, 2))), ("no", "late"))
+
     def test_what_is_told_is_the_askers_own(self):
         tree = Tree()
         told = tree.do(0, "ann", ("list", ()))
