@@ -3,11 +3,16 @@
 HEADS = ("h0", "h1")
 
 
+def askers_of(users):
+    """The askers by their names, each with its user."""
+    return {f"a{at}": user for at, user in enumerate(users)}
+
+
 class Board:
     """Who is who, which houses are lost or being emptied, and the tick."""
 
     def __init__(self, users, groups, pieces, copies):
-        self.users = {f"a{at}": user for at, user in enumerate(users)}
+        self.users = askers_of(users)
         self.groups = groups
         self.keepers = [f"p{at}" for at in range(pieces)]
         self.copies = copies

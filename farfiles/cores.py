@@ -27,6 +27,8 @@ class Core:
         # The folders that have a limit.
         self.limited = {}
         self.shares = {}
+        # Unbounded, no deed is refused for room.
+        self.is_bounded = True
         self.snaps = {}
         # The pieces that snapshots have.
         self.snapped = {}

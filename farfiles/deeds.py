@@ -31,6 +31,9 @@ GLANCED = ("read", "list", "look")
 # What only tells.
 TELLING = ("read", "list", "look", "use", "held", "old", "glance")
 
+# What may stand in an order again and again: what only tells, and leases.
+REPEATED = ("read", "list", "look", "use", "held", "old", "lease")
+
 # By these alone may a sight become another.
 CHANGING = ("folder", "file", "link", "move", "strike", "cut", "rights", "put")
 

@@ -17,7 +17,9 @@ class Promise:
 
 
 def has_room(core):
-    """Whether no limit and no share is less than its use."""
+    """Whether no limit and no share is less than its use, as far as any bounds the tree."""
+    if not core.is_bounded:
+        return True
     for folder in core.limited:
         if used(folder) > folder.limit:
             return False
@@ -66,7 +68,7 @@ def _limit(core, user, deed):
     must_own(user, folder)
     if many is None:
         core.limited.pop(folder, None)
-    elif used(folder) > many:
+    elif core.is_bounded and used(folder) > many:
         raise Refused("noroom")
     else:
         core.limited[folder] = True
@@ -80,7 +82,7 @@ def _share(core, user, deed):
         raise Refused("noright")
     if many is None:
         core.shares.pop(whose, None)
-    elif held(core, whose) > many:
+    elif core.is_bounded and held(core, whose) > many:
         raise Refused("noroom")
     else:
         core.shares[whose] = many

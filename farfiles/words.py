@@ -7,6 +7,7 @@ LETTERS = "abcdefghijklmnopqrstuvwxyz"
 MOST_LETTERS = 8
 MOST_NAMES = 6
 MOST_GROUPS = 8
+MOST_USERS = 4
 SIGNS = ("r", "w")
 RIGHTS_TEXTS = ("", "r", "w", "rw")
 
@@ -49,10 +50,17 @@ def is_groups(thing):
         if not isinstance(row, tuple) or len(row) != 2:
             return False
         group, users = row
-        if not is_word(group) or group <= ahead or not _is_users(users):
+        if not is_word(group) or group <= ahead or not _is_members(users):
             return False
         ahead = group
     return True
+
+
+def is_users(thing):
+    """Whether these are USERS of a World: one to four WORDs, perhaps alike."""
+    if not isinstance(thing, tuple) or not 1 <= len(thing) <= MOST_USERS:
+        return False
+    return all([is_word(user) for user in thing])
 
 
 def may(groups, user, sign, *, owner, group, rights):
@@ -83,7 +91,7 @@ def _is_rights_text(thing):
     return isinstance(thing, str) and thing in RIGHTS_TEXTS
 
 
-def _is_users(thing):
+def _is_members(thing):
     """Whether these are USERS of a group: growing WORDs, perhaps none."""
     if not isinstance(thing, tuple):
         return False

@@ -11,9 +11,8 @@ from farfiles.ledgers import Ledger
 from farfiles.posts import Post
 from farfiles.sizes import COPIES, PIECES
 from farfiles.wholes import is_from_to, is_whole
-from farfiles.words import is_groups, is_word
+from farfiles.words import is_groups, is_users
 
-MOST_USERS = 4
 MOST_PIECES = 5
 MOST_COPIES = 3
 MOST_TICKS = 200
@@ -26,7 +25,7 @@ class World:
     """Houses that fall, and letters that go astray, told as one tree."""
 
     def __init__(self, users, *, groups=(), pieces=PIECES, copies=COPIES):
-        if not _is_users(users):
+        if not is_users(users):
             raise NoUsers(users)
         if not is_groups(groups):
             raise NoGroups(groups)
@@ -283,9 +282,3 @@ class World:
                 head.be_two(self.era)
         for head in up:
             self.in_step[head.name] = True
-
-
-def _is_users(thing):
-    if not isinstance(thing, tuple) or not 1 <= len(thing) <= MOST_USERS:
-        return False
-    return all([is_word(user) for user in thing])
