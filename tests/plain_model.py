@@ -43,6 +43,22 @@ class Model:
                 self.promises[deed[1]]["put"] = True
             return ("no", word)
 
+    def strained(self, tick, user, deed):
+        """(WHO, LIMIT, USE) of all that would have more than its limit behind the deed."""
+        trial = copy.deepcopy(self)
+        trial.tick = tick
+        getattr(trial, "do_" + deed[0])(user, *deed[1:])
+        rows = []
+        for path in [(), *trial.paths()]:
+            folder = trial.come("root", path)
+            limit = trial.nodes[folder]["limit"]
+            if limit is not None and trial.use(folder) > limit:
+                rows.append((path, limit, trial.use(folder)))
+        for whose, many in trial.shares.items():
+            if trial.held(whose) > many:
+                rows.append((whose, many, trial.held(whose)))
+        return rows
+
     # Room.
 
     def below(self, folder):
