@@ -422,6 +422,11 @@ CELL_WORDS = (
     "old", "cut", "file",
 )
 
+ROOM_WORDS = (
+    "limit", "limit", "limit", "share", "share", "write", "write", "write", "write", "link", "move", "move", "rights", "rights",
+    "use", "held", "cut", "strike", "folder", "read",
+)
+
 
 class Kind:
     """What a drawn row is mostly made of."""
@@ -461,7 +466,7 @@ class Unheard(Cells):
 KINDS = {
     "all": Kind(WORDS, 60, 70), "leases": Kind(LEASE_WORDS, 90, 100),
     "cells": Cells(CELL_WORDS, 90, 30), "heads": Heads(WORDS, 80, 97),
-    "unheard": Unheard(CELL_WORDS, 90, 45),
+    "room": Kind(ROOM_WORDS, 90, 90), "unheard": Unheard(CELL_WORDS, 90, 45),
 }
 
 
@@ -485,9 +490,9 @@ def drawn_deed(draw, users, kind):
         rights = tuple([draw.one(texts) for _ in range(3)])
         return (word, path, draw.one(users), draw.one(("root", "staff")), rights)
     if word == "limit":
-        return (word, path, draw.one((None, 10, 30, 60)))
+        return (word, path, draw.one((None, 3, 10, 30)))
     if word == "share":
-        return (word, draw.one(users), draw.one((None, 10, 30, 60)))
+        return (word, draw.one(users), draw.one((None, 3, 10, 30)))
     if word == "held":
         return (word, draw.one(users))
     if word == "snap":
