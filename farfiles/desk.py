@@ -5,15 +5,19 @@ from farfiles.rows import read_row
 from farfiles.sizes import COPIES, PIECES
 from farfiles.worlds import World
 
-# The rows by which a house's letters, ticks and falls go on.
-OK = "ok"
-
 
 class Desk:
     """Keeps a World, and answers each row with a text."""
 
     def __init__(self, users, *, groups=(), pieces=PIECES, copies=COPIES):
-        self.world = World(users, groups=groups, pieces=pieces, copies=copies)
+        world = World(users, groups=groups, pieces=pieces, copies=copies)
+        self.world = world
+        # What is done by a word with a number or a house behind it.
+        self.changes = {
+            "carry": world.carry, "lose": world.lose, "double": world.double, "tick": world.tick,
+            "fall": world.fall, "rise": world.rise, "gone": world.gone, "bend": world.bend,
+            "empty": world.empty,
+        }
         self.users = users
         self.groups = groups
         # The deeds that were asked, by the question's number.
@@ -22,10 +26,10 @@ class Desk:
     def say(self, row):
         """The answer to the row."""
         word, values = read_row(row)
-        if word in CHANGES:
-            change = CHANGES[word]
-            change(self.world, values[0])
-            return OK
+        if word in self.changes:
+            change = self.changes[word]
+            change(values[0])
+            return "ok"
         if word == "answer":
             return self._answer(values[0])
         if values:
@@ -78,45 +82,3 @@ def _is_of_cells(deed):
 
 def _yes_or_no(truth):
     return "yes" if truth else "no"
-
-
-def _carry(world, number):
-    world.carry(number)
-
-
-def _lose(world, number):
-    world.lose(number)
-
-
-def _double(world, number):
-    world.double(number)
-
-
-def _tick(world, many):
-    world.tick(many)
-
-
-def _fall(world, house):
-    world.fall(house)
-
-
-def _rise(world, house):
-    world.rise(house)
-
-
-def _gone(world, house):
-    world.gone(house)
-
-
-def _bend(world, house):
-    world.bend(house)
-
-
-def _empty(world, house):
-    world.empty(house)
-
-
-CHANGES = {
-    "carry": _carry, "lose": _lose, "double": _double, "tick": _tick, "fall": _fall,
-    "rise": _rise, "gone": _gone, "bend": _bend, "empty": _empty,
-}

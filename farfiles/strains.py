@@ -26,7 +26,7 @@ def _strains(core, when, user, deed):
     trial = trial_of(core)
     trial.is_bounded = False
     trial.act(when, user, deed)
-    return [*_full_folders(trial), *_full_users(trial)]
+    return _full_folders(trial) + _full_users(trial)
 
 
 def _full_folders(core):
