@@ -6,6 +6,7 @@ import unittest
 from farfiles import checker
 from farfiles.checker import holds
 from farfiles.judging import judge
+from farfiles.strains import strains_at
 from farfiles.trees import Tree
 from stories import changed, drawn_stories, left_out, roomy_story, told_story, twice
 from worlds_watched import Draw
@@ -231,6 +232,15 @@ class NoroomTest(CheckerTest):
         self.left(("noroom", (), ("root",), order, 5), ((), 0, True))
         self.left(("noroom", (), ("root",), order, True), ((), 1, 2))
 
+    def test_what_is_just_full_is_not_too_full(self):
+        order = (
+            (1, 0, "a0", 0, ("folder", ("d",))), (2, 0, "a0", 1, ("file", ("d", "f"))), (3, 0, "a0", 2, ("limit", ("d",), 3)),
+            (4, 0, "a0", 3, ("share", "root", 3)), (5, 0, "a0", 4, ("limit", (), 2)), (6, 0, "a0", 5, ("promise", ("d", "f"), None, 3)),
+        )
+        self.taken(("noroom", (), ("root",), order, 6), ((), 2, 3))
+        self.left(("noroom", (), ("root",), order, 6), (("d",), 3, 3))
+        self.left(("noroom", (), ("root",), order, 6), ("root", 3, 3))
+
     def test_a_path_as_it_would_be(self):
         order = (
             (1, 0, "a0", 0, ("folder", ("a",))), (2, 0, "a0", 1, ("folder", ("a", "b"))), (3, 0, "a0", 2, ("folder", ("c",))),
@@ -261,6 +271,7 @@ class NoroomTest(CheckerTest):
                     self.left(claim, ((), 0, 1))
                     continue
                 self.assertNotEqual(strains[row[0]], [])
+                self.assertCountEqual(strains_at(groups, users, order, row[0]), strains[row[0]])
                 for who, limit, use in strains[row[0]]:
                     seen += 1
                     self.taken(claim, (who, limit, use))

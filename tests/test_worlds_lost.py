@@ -250,6 +250,121 @@ class LostTest(LostCase):
         self.assertEqual(self.asked(world, "a0", "read", ("x",)), ("lost", ("p1", "p2")))
 
 
+class OrderedTest(LostCase):
+    """Copies that are on their way when cells are asked for."""
+
+    def with_a_copy_on_its_way(self):
+        """A World where p2 told that its cells are bent, and p1, that had them right, sent them and is gone."""
+        world = self.with_file(("root",), data=None)
+        self.done(world, "a0", "write", ("x",), None, (7, 8))
+        self.assertIs(world.calm(), True)
+        world.bend("p2")
+        copy = []
+        while not copy:
+            world.tick()
+            while world.letters() and not copy:
+                copy = between(world, "p1", "p2")
+                # What p0 would get is lost.
+                to_first = between(world, "p1", "p0")
+                if to_first:
+                    world.lose(to_first[0])
+                elif not copy:
+                    world.carry(world.letters()[0][0])
+        for number, _, _ in world.letters():
+            if number not in copy:
+                world.lose(number)
+        world.gone("p1")
+        return world, copy
+
+    def read_but(self, world, late):
+        """The answer to a reading, behind some ticks, with these letters not carried."""
+        question = world.ask("a0", ("read", ("x",)))
+        self.go_on_but(world, 4, late)
+        return world.answer(question)
+
+    def go_on_but(self, world, ticks, late):
+        """Carry all but these letters, then let a tick go on, so many times."""
+        for _ in range(ticks):
+            for _ in range(9):
+                for number, _, _ in world.letters():
+                    if number not in late:
+                        world.carry(number)
+            world.tick()
+
+    def test_it_comes_ahead_of_the_reading(self):
+        world, copy = self.with_a_copy_on_its_way()
+        for number in copy:
+            world.carry(number)
+        self.assertEqual(self.asked(world, "a0", "read", ("x",)), ("told", (7, 8)))
+
+    def test_it_comes_behind_the_reading(self):
+        world, copy = self.with_a_copy_on_its_way()
+        self.assertEqual(self.read_but(world, copy)[0], ("lost", ("p1", "p2")))
+        for number in copy:
+            world.carry(number)
+        self.assertIs(world.calm(), True)
+        self.assertEqual(self.asked(world, "a0", "read", ("x",)), ("lost", ("p1", "p2")))
+
+    def test_it_comes_behind_the_reading_and_the_head_forgot_of_it(self):
+        for asked_ahead in (True, False):
+            world, copy = self.with_a_copy_on_its_way()
+            world.fall("h0")
+            world.rise("h0")
+            # By then p2 told anew that its cells are bent.
+            self.go_on_but(world, 3 * asked_ahead, copy)
+            self.assertEqual(self.read_but(world, copy)[0], ("lost", ("p1", "p2")))
+            for number in copy:
+                world.carry(number)
+            self.assertIs(world.calm(), True)
+            self.assertEqual(self.asked(world, "a0", "read", ("x",)), ("lost", ("p1", "p2")))
+
+    def test_it_comes_while_the_house_is_not_heard(self):
+        world, copy = self.with_a_copy_on_its_way()
+        question = world.ask("a0", ("read", ("x",)))
+        for _ in range(4):
+            while [row for row in world.letters() if row[0] not in copy]:
+                number, source, target = [row for row in world.letters() if row[0] not in copy][0]
+                (world.lose if "p2" in (source, target) else world.carry)(number)
+            world.tick()
+        self.assertIsNone(world.answer(question))
+        for number in copy:
+            world.carry(number)
+        self.go_on(world, 2)
+        self.assertEqual(world.answer(question)[0], ("told", (7, 8)))
+
+    def test_what_a_head_ordered_that_leads_no_more(self):
+        """A head that doesn't know that the other one goes on alone has copies made in vain."""
+        world = self.with_file(("root",))
+        world.fall("h0")
+        self.assertIs(world.alone(), True)
+        world.rise("h0")
+        world.bend("p2")
+        question = world.ask("a0", ("read", ("x",)))
+        for source, target in (("a0", "h1"), ("h1", "p0"), ("p0", "h1")):
+            for number in between(world, source, target):
+                world.carry(number)
+        # From here on the piece houses hear only h0, and copies come to p0 alone.
+        for _ in range(12):
+            for _ in range(9):
+                for number, source, target in world.letters():
+                    heard = "h1" not in (source, target) and source != "a0" and (source, target) != ("p1", "p2")
+                    (world.carry if heard else world.lose)(number)
+            world.tick()
+        world.fall("p0")
+        world.gone("p1")
+        for _ in range(9):
+            for _ in range(9):
+                for number, source, target in world.letters():
+                    (world.lose if "h0" in (source, target) else world.carry)(number)
+            world.tick()
+        first = world.answer(question)
+        world.rise("p0")
+        self.assertIs(world.calm(), True)
+        second = self.asked(world, "a0", "read", ("x",))
+        if first is not None:
+            self.assertEqual(first[0], second)
+
+
 class DrawnTest(unittest.TestCase):
     def test_drawn_rows_of_lost_cells(self):
         """What was told as lost is never told again: see check_lost_stays."""
