@@ -332,6 +332,31 @@ class OrderedTest(LostCase):
         self.go_on(world, 2)
         self.assertEqual(world.answer(question)[0], ("told", (7, 8)))
 
+    def test_what_a_house_told_ahead_of_a_heads_fall(self):
+        """An old letter comes late, by which the cells were bent that are right since."""
+        world = self.with_file(("root",))
+        world.bend("p2")
+        world.tick()
+        while not between(world, "p2", "h0"):
+            world.carry(world.letters()[0][0])
+        world.double(between(world, "p2", "h0")[0])
+        late = between(world, "p2", "h0")[-1:]
+        self.go_on_but(world, 6, late)
+        self.go_on_but(world, 1, late)
+        # By now p2 has them right again.
+        world.fall("h0")
+        world.rise("h0")
+        world.carry(late[0])
+        world.fall("p2")
+        world.gone("p1")
+        question = world.ask("a0", ("read", ("x",)))
+        self.carry_all(world)
+        self.go_on(world, 9)
+        self.assertIsNone(world.answer(question))
+        world.rise("p2")
+        self.assertIs(world.calm(), True)
+        self.assertEqual(world.answer(question)[0], ("told", (1, 2, 3)))
+
     def test_what_a_head_ordered_that_leads_no_more(self):
         """A head that doesn't know that the other one goes on alone has copies made in vain."""
         world = self.with_file(("root",))
