@@ -3,8 +3,8 @@
 Cells are told as ("cells", PARTS): who keeps the pieces puts the cells in.
 """
 
-from farfiles.nodes import DONE, Folder, Refused, copied, files_below, folder_at, gone_along
-from farfiles.nodes import lets, must_own
+from farfiles.nodes import DONE, Refused, copied, files_below, folder_at, gone_along, lets
+from farfiles.nodes import must_own
 
 
 def telling_deed(core, user, deed):

@@ -87,6 +87,25 @@ class LanguageTest(unittest.TestCase):
         for alias in node.names:
             self.assertIn(alias.name, defined)
 
+    def test_each_import_is_used(self):
+        for path, tree in trees():
+            used = {node.id for node in ast.walk(tree) if isinstance(node, ast.Name)}
+            for node in ast.walk(tree):
+                if isinstance(node, ast.ImportFrom):
+                    self.assertLessEqual({alias.name for alias in node.names}, used, path)
+
+    def test_no_two_files_import_from_each_other(self):
+        wanted = {path.stem: set() for path, _ in trees()}
+        for path, node in nodes(ast.ImportFrom):
+            if node.module not in LIBRARY:
+                wanted[path.stem].add(node.module.split(".")[-1])
+        # Take away, again and again, what imports nothing that is left.
+        while wanted:
+            free = [name for name, others in wanted.items() if not others & set(wanted)]
+            self.assertNotEqual(free, [], sorted(wanted))
+            for name in free:
+                del wanted[name]
+
     def test_builtins(self):
         for path, node in nodes(ast.Name):
             if hasattr(builtins, node.id):
