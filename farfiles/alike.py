@@ -8,12 +8,23 @@ def is_alike(thing, known):
 
     By == alone a truth would be a number.
     """
-    if known is None:
-        return thing is None
-    if isinstance(known, str):
-        return isinstance(thing, str) and thing == known
-    if is_whole(known):
-        return is_whole(thing) and thing == known
+    if not isinstance(known, tuple):
+        return _is_same(thing, known)
     if not isinstance(thing, tuple) or len(thing) != len(known):
         return False
-    return all([is_alike(inner, other) for inner, other in zip(thing, known)])
+    for inner, other in zip(thing, known):
+        if isinstance(other, tuple):
+            if not is_alike(inner, other):
+                return False
+        elif not _is_same(inner, other):
+            return False
+    return True
+
+
+def _is_same(thing, known):
+    """The same, where the known one is no tuple."""
+    if isinstance(known, str):
+        return isinstance(thing, str) and thing == known
+    if known is None:
+        return thing is None
+    return is_whole(thing) and thing == known

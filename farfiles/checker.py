@@ -2,7 +2,8 @@
 
 from farfiles.alike import is_alike
 from farfiles.errors import FarError
-from farfiles.histories import sights_from
+from farfiles.forms import check_forms
+from farfiles.histories import stayed_sight
 from farfiles.judging import judge
 from farfiles.strains import strains_at
 from farfiles.wholes import is_whole
@@ -30,6 +31,9 @@ def _fits(claim, paper):
 
 def _apart(claim, paper):
     _, groups, users, order, told = claim
+    # What is found is such a tuple; of all else it needn't be looked for.
+    if not isinstance(paper, tuple) or len(paper) != 2:
+        return False
     found = judge(groups, users, order, told)
     return found is not None and is_alike(paper, found)
 
@@ -38,23 +42,24 @@ def _newest(claim, paper):
     _, groups, users, order, user, path, sight, place = claim
     if paper is not None or not is_word(user) or not is_path(path):
         return False
-    if not _is_sound(groups, users, order, place):
+    check_forms(groups, users, order, ())
+    if not _is_place_of(order, place):
         return False
-    sights = sights_from(groups, users, order, user, path, place)
-    return all([is_alike(sight, known) for known in sights])
+    stayed = stayed_sight(groups, users, order, user, path, place)
+    return stayed is not None and is_alike(sight, stayed)
 
 
 def _noroom(claim, paper):
     _, groups, users, order, place = claim
-    if not _is_sound(groups, users, order, place):
+    if not isinstance(paper, tuple) or len(paper) != 3:
+        return False
+    check_forms(groups, users, order, ())
+    if not _is_place_of(order, place):
         return False
     return any([is_alike(paper, row) for row in strains_at(groups, users, order, place)])
 
 
-def _is_sound(groups, users, order, place):
-    """Whether nothing is found in the order, and it has this place."""
-    if judge(groups, users, order, ()) is not None:
-        return False
+def _is_place_of(order, place):
     return is_whole(place) and place in [row[0] for row in order]
 
 

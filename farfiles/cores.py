@@ -3,14 +3,17 @@
 A piece has the number of the promise by which it was put.
 """
 
-from farfiles.nodes import Folder, Refused, copied, files_below
+from farfiles.nodes import Folder, copied, files_below
 from farfiles.room import Promise, lapse, room_deed
 from farfiles.shapes import shape_deed
 from farfiles.sizes import ROOT
 from farfiles.tellings import sight_of, telling_deed
 
-SHAPING = ("folder", "file", "link", "move", "strike", "cut", "rights")
-ROOMY = ("limit", "share", "promise", "put", "use", "held")
+SHAPING = {
+    "folder": True, "file": True, "link": True, "move": True, "strike": True, "cut": True,
+    "rights": True,
+}
+ROOMY = {"limit": True, "share": True, "promise": True, "put": True, "use": True, "held": True}
 
 
 class Core:
@@ -27,8 +30,9 @@ class Core:
         # The folders that have a limit.
         self.limited = {}
         self.shares = {}
-        # Unbounded, no deed is refused for room.
-        self.is_bounded = True
+        # Watched, it notes whose limit or share a deed that finds no room would break.
+        self.is_watched = False
+        self.strains = []
         self.snaps = {}
         # The pieces that snapshots have.
         self.snapped = {}
@@ -36,11 +40,14 @@ class Core:
     def act(self, when, user, deed):
         """The answer to a deed, of a put how many cells in the place of DATA."""
         self.clock = when
-        lapse(self)
-        try:
-            return _answered(self, user, deed)
-        except Refused as refusal:
-            return ("no", refusal.word)
+        if self.promises:
+            lapse(self)
+        word = deed[0]
+        if word in SHAPING:
+            return shape_deed(self, user, deed)
+        if word in ROOMY:
+            return room_deed(self, user, deed)
+        return telling_deed(self, user, deed)
 
     def seen(self, user, path):
         """The sight of the path."""
@@ -66,11 +73,3 @@ def trial_of(core):
         file = copied(told.file, twins)
         trial.promises[number] = Promise(file, told.user, told.place, told.many, told.until)
     return trial
-
-
-def _answered(core, user, deed):
-    if deed[0] in SHAPING:
-        return shape_deed(core, user, deed)
-    if deed[0] in ROOMY:
-        return room_deed(core, user, deed)
-    return telling_deed(core, user, deed)

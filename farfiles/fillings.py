@@ -3,10 +3,15 @@
 
 def wanted_parts(word, raw):
     """The PARTS whose cells the answer to a deed of this word wants, None of none."""
-    inner = _inner(word, raw)
-    if inner is not None and inner[0] == "cells":
-        return inner[1]
-    return None
+    if word == "sight":
+        inner = raw[1][1]
+    elif word == "lease":
+        inner = raw[1][0][1]
+    elif word == "read" or word == "old":
+        inner = raw
+    else:
+        return None
+    return inner[1] if inner[0] == "cells" else None
 
 
 def filled(word, raw, inner):
@@ -18,14 +23,3 @@ def filled(word, raw, inner):
         (look, _), until = raw[1]
         return ("told", ((look, inner), until))
     return inner
-
-
-def _inner(word, raw):
-    """The answer that may tell cells, None where there is none."""
-    if word == "sight":
-        return raw[1][1]
-    if word == "lease":
-        return raw[1][0][1]
-    if word in ("read", "old"):
-        return raw
-    return None

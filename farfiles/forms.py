@@ -42,9 +42,7 @@ def _is_order_row(thing):
     if not isinstance(thing, tuple) or len(thing) != 5:
         return False
     place, when, asker, question, deed = thing
-    if not (_is_place(place) and is_count(when) and is_count(question)):
-        return False
-    return isinstance(asker, str) and is_tree_deed(deed)
+    return _are_numbers(place, when, question) and isinstance(asker, str) and is_tree_deed(deed)
 
 
 def _is_told_row(thing):
@@ -52,13 +50,22 @@ def _is_told_row(thing):
     if not isinstance(thing, tuple) or len(thing) != 7:
         return False
     question, asker, deed, answer, place, age, when = thing
-    if not (is_count(question) and _is_place(place) and is_count(age) and is_count(when)):
+    if not _are_numbers(place, when, question) or not is_count(age):
         return False
     return isinstance(asker, str) and is_asked_deed(deed) and _is_answer(answer)
 
 
-def _is_place(thing):
-    return is_count(thing) and thing >= 1
+def _are_numbers(place, when, question):
+    """Whether these are whole numbers, the place from 1, the others from 0 on.
+
+    Rows are many, and a look at each number by itself would cost as much as all the rest.
+    """
+    if not (isinstance(place, int) and isinstance(when, int) and isinstance(question, int)):
+        return False
+    # A truth is an int, too; False is no place anyway.
+    if place is True or when is True or when is False or question is True or question is False:
+        return False
+    return place >= 1 and when >= 0 and question >= 0
 
 
 def _is_answer(thing):

@@ -1,72 +1,93 @@
-"""An order told to a plain tree, row by row, and what it tells of each question."""
+"""An order told to a plain tree, row by row, and only as far as something is asked of it."""
 
 from farfiles.boards import askers_of
-from farfiles.deeds import REPEATED
-from farfiles.trees import Tree
-
-
-class Settled:
-    """What an order has of a question: its asker, its deeds, and the last one's answer."""
-
-    def __init__(self, asker):
-        self.asker = asker
-        self.deeds = []
-        self.place = 0
-        self.outcome = None
+from farfiles.deeds import BINDING, CHANGING, REPEATED
+from farfiles.groves import Grove
+from farfiles.nodes import DONE
 
 
 class History:
-    """A plain tree that has been told an order up to some row."""
+    """The rows of an order that were taken, and a plain tree that was told of them.
 
-    def __init__(self, groups, users):
-        self.tree = Tree(groups)
+    The tree is told the rows up to the place needed, and of these only the deeds on
+    which an answer that is asked for may hang: of promises, by which the NUMBER of a
+    put is known, and of the judged questions.
+    """
+
+    def __init__(self, groups, users, needed, judged):
+        self.grove = Grove(groups)
         self.users = askers_of(users)
+        self.needed = needed
+        self.judged = judged
         self.place = 0
         self.clock = 0
-        self.questions = {}
         # Of each asker its greatest question.
-        self.newest = {}
+        self.newest = {asker: 0 for asker in self.users}
+        # Of each question its last row, and the answer to it, if the tree was told of it.
+        self.rows = {}
+        self.outcomes = {}
+        # Of each question that is a write the promise ahead of the put.
+        self.promises = {}
 
-    def may_stand(self, row):
-        """Whether the row may stand behind those told ahead."""
+    def takes(self, row):
+        """Go on by the row, if it may stand behind those taken ahead: whether it may."""
         place, when, asker, question, deed = row
-        if place <= self.place or when < self.clock or asker not in self.users:
+        newest = self.newest.get(asker)
+        if newest is None or question < newest or place <= self.place or when < self.clock:
             return False
-        if question < self.newest.get(asker, 0):
+        if question in self.rows:
+            if not self._goes_on(self.rows[question], asker, deed):
+                return False
+        elif deed[0] == "put":
             return False
-        if question not in self.questions:
-            return deed[0] != "put"
-        return _goes_on(self.questions[question], asker, deed)
-
-    def go_on(self, row):
-        """Tell the tree the row's deed: its answer."""
-        place, when, asker, question, deed = row
         self.place = place
         self.clock = when
         self.newest[asker] = question
-        settled = self.questions.setdefault(question, Settled(asker))
-        settled.deeds.append(deed)
-        settled.place = place
-        settled.outcome = self.tree.do(when, self.users[asker], deed)
-        return settled.outcome
+        self.rows[question] = row
+        if place <= self.needed and self._is_asked_for(question, deed[0]):
+            self.outcomes[question] = self.grove.reply(when, self.users[asker], deed)
+        return True
+
+    def has_changed(self, row):
+        """Whether a sight may be another one by this row, the last one that was taken."""
+        return row[4][0] in CHANGING and self.outcomes[row[3]] == DONE
+
+    def _goes_on(self, ahead, asker, deed):
+        """Whether a question with this row ahead may stand in the order once more."""
+        _, _, known_asker, question, known = ahead
+        if asker != known_asker:
+            return False
+        if known[0] != "promise":
+            return deed == known and deed[0] in REPEATED
+        self.promises[question] = known
+        return deed[0] == "put" and self.outcomes[question] == ("done", deed[1])
+
+    def _is_asked_for(self, question, word):
+        """Whether an answer that is asked for may hang on the question's deed of this word."""
+        if word in BINDING or question in self.judged:
+            return True
+        # Only what judged questions were told may hang on a snapshot.
+        return word == "snap" and len(self.judged) > 0
 
 
-def sights_from(groups, users, order, user, path, place):
-    """What sight of the path tells the user behind each deed from this place on."""
-    history = History(groups, users)
-    sights = []
+def last_put(order):
+    """Up to which place a tree must be told of the order, to know whether all may stand."""
+    return max([row[0] for row in order if row[4][0] == "put"], default=0)
+
+
+def stayed_sight(groups, users, order, user, path, place):
+    """The sight of the path for the user behind each deed from this place on.
+
+    None where it became another one, or where a row of the order may not stand.
+    """
+    history = History(groups, users, max([row[0] for row in order]), {})
+    shown = None
     for row in order:
-        history.go_on(row)
-        if row[0] >= place:
-            sights.append(history.tree.sight(user, path))
-    return sights
-
-
-def _goes_on(settled, asker, deed):
-    """Whether the question, whose asker this is, may stand in the order once more."""
-    if asker != settled.asker:
-        return False
-    ahead = settled.deeds[-1]
-    if ahead[0] == "promise":
-        return deed[0] == "put" and settled.outcome == ("done", deed[1])
-    return deed == ahead and deed[0] in REPEATED
+        if not history.takes(row):
+            return None
+        if row[0] >= place and (shown is None or history.has_changed(row)):
+            sight = history.grove.view(user, path)
+            if shown is not None and sight != shown:
+                return None
+            shown = sight
+    return shown

@@ -3,7 +3,7 @@
 from farfiles.alike import is_alike
 from farfiles.deeds import GLANCED
 from farfiles.forms import check_forms
-from farfiles.histories import History
+from farfiles.histories import History, last_put
 from farfiles.sizes import BOUND
 from farfiles.wholes import is_whole
 
@@ -14,53 +14,58 @@ KEEPERS = ("p0", "p1", "p2", "p3", "p4")
 def judge(groups, users, order, told):
     """None where all fits, else ("order", AT) or ("told", QUESTION) of the first that doesn't."""
     check_forms(groups, users, order, told)
-    history = History(groups, users)
-    settled = {row[3]: True for row in order}
-    late = _rows_by_place([row for row in told if row[0] not in settled])
+    needed = max([row[4] for row in told], default=0)
+    judged = {row[0]: True for row in told}
+    history = History(groups, users, max(needed, last_put(order)), judged)
+    late = _late_rows(order, told)
     fitting = {}
     for row in order:
-        if not history.may_stand(row):
+        if not history.takes(row):
             return ("order", row[0])
-        history.go_on(row)
-        for other in late.get(row[0], []):
+        for other in late.get(row[0], ()):
             fitting[other[0]] = _fits_behind(history, row, other)
     for row in told:
         question = row[0]
-        if question in settled:
-            fitting[question] = _fits_settled(history.questions[question], row)
+        if question in history.rows:
+            fitting[question] = _fits_settled(history, row)
         # A place that isn't in the order leaves its row without any word.
         if not fitting.get(question, False):
             return ("told", question)
     return None
 
 
-def _rows_by_place(rows):
+def _late_rows(order, told):
+    """The rows told of questions that aren't in the order, by their place."""
+    settled = {row[3]: True for row in order}
     found = {}
-    for row in rows:
-        found.setdefault(row[4], []).append(row)
+    for row in told:
+        if row[0] not in settled:
+            found.setdefault(row[4], []).append(row)
     return found
 
 
-def _fits_settled(settled, row):
+def _fits_settled(history, row):
     """Whether the row tells of a question in the order what the tree answered."""
-    _, asker, deed, answer, place, age, _ = row
-    if asker != settled.asker or place != settled.place or age != 0:
+    question, asker, deed, answer, place, age, _ = row
+    last_place, _, known_asker, _, known = history.rows[question]
+    if asker != known_asker or place != last_place or age != 0:
         return False
-    if not _is_of(settled, deed):
+    outcome = history.outcomes[question]
+    if not _is_of(deed, known, outcome, history.promises.get(question)):
         return False
-    return _is_answered(settled.deeds[-1][0], answer, settled.outcome)
+    return _is_answered(known[0], answer, outcome)
 
 
-def _is_of(settled, deed):
-    """Whether the order's deeds are what was asked so, and nothing is left to be settled."""
-    if deed[0] == "write":
-        _, path, place, data = deed
-        if settled.deeds[0] != ("promise", path, place, len(data)):
-            return False
-        if len(settled.deeds) == 1:
-            return settled.outcome[0] != "done"
-        return settled.deeds[1][2] == data
-    return settled.deeds[0] == (deed[1] if deed[0] == "glance" else deed)
+def _is_of(deed, known, outcome, promise):
+    """Whether the order's last deed, and the promise ahead of a put, are what was asked so."""
+    if deed[0] != "write":
+        return known == (deed[1] if deed[0] == "glance" else deed)
+    _, path, place, data = deed
+    wanted = ("promise", path, place, len(data))
+    if known[0] == "put":
+        return promise == wanted and known[2] == data
+    # Of a promise that was done the put is still to be settled.
+    return known == wanted and outcome[0] != "done"
 
 
 def _fits_behind(history, row, other):
@@ -74,7 +79,7 @@ def _fits_behind(history, row, other):
     of_old = deed[0] == "glance" and age == told_at - when and age <= BOUND
     if not of_old and not (by_lease and told_at < when + leased[2] and age == 0):
         return False
-    return _is_answered(inner[0], answer, history.tree.do(when, history.users[asker], inner))
+    return _is_answered(inner[0], answer, history.grove.reply(when, history.users[asker], inner))
 
 
 def _is_answered(word, answer, known):

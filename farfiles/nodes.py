@@ -1,4 +1,7 @@
-"""Folders and files, how they are come to, and who may do what to them."""
+"""Folders and files, how they are come to, and who may do what to them.
+
+A refusal is told by its word alone, a text, in the place of what was looked for.
+"""
 
 from farfiles.sizes import ROOT
 from farfiles.words import MOST_NAMES, is_path
@@ -6,13 +9,8 @@ from farfiles.words import MOST_NAMES, is_path
 # The answer to a deed that tells nothing.
 DONE = ("done",)
 
-
-class Refused(Exception):
-    """A deed that is answered with no and this word."""
-
-    def __init__(self, word):
-        super().__init__("the deed is refused")
-        self.word = word
+# The answer to a deed for which the user lacks the right.
+NO_RIGHT = ("no", "noright")
 
 
 class Folder:
@@ -23,6 +21,8 @@ class Folder:
         self.owner = owner
         self.group = group
         self.rights = rights
+        # Whether all may read it. Nearly all things are so, and it's asked of each name of a path.
+        self.is_open = True
         self.names = {}
         self.limit = None
 
@@ -35,6 +35,7 @@ class File:
         self.owner = owner
         self.group = group
         self.rights = rights
+        self.is_open = True
         # Only a folder has names.
         self.names = None
         self.parts = ()
@@ -42,6 +43,13 @@ class File:
         self.promised = 0
         # How many names it has; without any it is gone.
         self.links = 1
+
+
+def give_rights(node, rights):
+    """Let the thing have these rights from now on."""
+    owners, group, others = rights
+    node.rights = rights
+    node.is_open = "r" in owners and "r" in group and "r" in others
 
 
 def lets(members, user, sign, node):
@@ -71,7 +79,7 @@ def gone_along(members, top, path, user):
         names = node.names
         if names is None:
             word = "nofolder"
-        elif user != ROOT and not lets(members, user, "r", node):
+        elif not node.is_open and not lets(members, user, "r", node):
             word = "noright"
         elif name not in names:
             word = "nothere"
@@ -82,59 +90,62 @@ def gone_along(members, top, path, user):
     return node
 
 
-def come_to(members, top, path, user):
-    """What the path names, gone along from the top by the user."""
-    node = gone_along(members, top, path, user)
-    if isinstance(node, str):
-        raise Refused(node)
+def come_to(core, user, path):
+    """What the PATH names, gone along from the top by the user; else the word of a refusal."""
+    node = core.top
+    for name in path:
+        names = node.names
+        if names is None:
+            return "nofolder"
+        if not node.is_open and not lets(core.members, user, "r", node):
+            return "noright"
+        if name not in names:
+            return "nothere"
+        node = names[name]
     return node
 
 
 def folder_at(core, user, path):
-    """The folder that the path names."""
-    node = come_to(core.members, core.top, path, user)
-    if not isinstance(node, Folder):
-        raise Refused("nofolder")
+    """The folder that the path names, else the word of a refusal."""
+    node = come_to(core, user, path)
+    return "nofolder" if isinstance(node, File) else node
+
+
+def file_at(core, user, path, sign):
+    """The file that the path names, to which the user may do the sign, if any; else a word."""
+    node = come_to(core, user, path)
+    if isinstance(node, str):
+        return node
+    if node.names is not None:
+        return "nofile"
+    if sign is not None and not lets(core.members, user, sign, node):
+        return "noright"
     return node
 
 
-def file_at(core, user, path):
-    """The file that the path names."""
-    node = come_to(core.members, core.top, path, user)
-    if not isinstance(node, File):
-        raise Refused("nofile")
-    return node
-
-
-def must_let(core, user, sign, node):
-    """Refuse the deed, if the user may not do the sign."""
-    if not lets(core.members, user, sign, node):
-        raise Refused("noright")
-
-
-def must_own(user, node):
-    """Refuse the deed to all but the owner and root."""
-    if user != node.owner and user != ROOT:
-        raise Refused("noright")
+def owns(user, node):
+    """Whether this is the owner, or root."""
+    return user == node.owner or user == ROOT
 
 
 def files_below(folder):
     """The files with a name in the folder or below, each once."""
     found = {}
-    waiting = [folder]
-    while waiting:
-        here = waiting.pop()
-        for node in list(here.names.values()):
-            if isinstance(node, Folder):
-                waiting.append(node)
-            else:
-                found[node] = True
+    _find_files(folder, found)
     return list(found)
+
+
+def _find_files(folder, found):
+    for node in folder.names.values():
+        if node.names is None:
+            found[node] = True
+        else:
+            _find_files(node, found)
 
 
 def height(node):
     """How many names the longest path below has."""
-    if not isinstance(node, Folder):
+    if node.names is None:
         return 0
     return max([1 + height(below) for below in node.names.values()], default=0)
 
@@ -143,7 +154,7 @@ def copied(node, twins):
     """Another node like this one and all below; twins tells the new one of each."""
     if node in twins:
         return twins[node]
-    if isinstance(node, Folder):
+    if node.names is not None:
         twin = Folder(node.owner, node.group, node.rights)
         twin.limit = node.limit
         twin.names = {name: copied(below, twins) for name, below in node.names.items()}
@@ -153,5 +164,6 @@ def copied(node, twins):
         twin.size = node.size
         twin.promised = node.promised
         twin.links = node.links
+    twin.is_open = node.is_open
     twins[node] = twin
     return twin

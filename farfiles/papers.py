@@ -1,7 +1,8 @@
 """The house's papers: claims that are true, each with the paper by which it is taken."""
 
 from farfiles.errors import NoDeed, NoPlace, NoWord
-from farfiles.histories import sights_from
+from farfiles.forms import check_forms
+from farfiles.histories import stayed_sight
 from farfiles.judging import judge
 from farfiles.strains import strains_at
 from farfiles.wholes import is_whole
@@ -17,26 +18,22 @@ def paper_told(groups, users, order, told):
 
 def paper_newest(groups, users, order, *, user, path, place):
     """The claim that the path's sight stayed as it was from this place on, None where it changed."""
-    found = judge(groups, users, order, ())
+    check_forms(groups, users, order, ())
     if not is_word(user):
         raise NoWord(user)
     if not is_path(path):
         raise NoDeed(path)
     _check_place(order, place)
-    if found is not None:
+    sight = stayed_sight(groups, users, order, user, path, place)
+    if sight is None:
         return None
-    sights = sights_from(groups, users, order, user, path, place)
-    if any([sight != sights[0] for sight in sights]):
-        return None
-    return (("newest", groups, users, order, user, path, sights[0], place), None)
+    return (("newest", groups, users, order, user, path, sight, place), None)
 
 
 def paper_room(groups, users, order, place):
     """The claim that the deed at this place found no room, None where it isn't answered so."""
-    found = judge(groups, users, order, ())
+    check_forms(groups, users, order, ())
     _check_place(order, place)
-    if found is not None:
-        return None
     strains = strains_at(groups, users, order, place)
     return (("noroom", groups, users, order, place), strains[0]) if strains else None
 

@@ -1,9 +1,9 @@
 """The deeds by which folders and files come, go and become others."""
 
-from farfiles.nodes import DONE, File, Folder, Refused, come_to, file_at, folder_at, height
-from farfiles.nodes import must_let, must_own
+from farfiles.nodes import DONE, NO_RIGHT, File, Folder, come_to, file_at, give_rights, height
+from farfiles.nodes import lets, owns
 from farfiles.parts import shortened
-from farfiles.room import has_room
+from farfiles.room import NO_ROOM, has_room
 from farfiles.sizes import ROOT
 from farfiles.words import MOST_NAMES
 
@@ -18,35 +18,40 @@ def shape_deed(core, user, deed):
 
 
 def _folder_of(core, user, path):
-    """The folder in which the last name of the path stands or shall stand."""
-    folder = folder_at(core, user, path[:-1])
-    must_let(core, user, "w", folder)
-    return folder
+    """The folder in which the last name of the path stands or shall stand, else a word."""
+    folder = come_to(core, user, path[:-1])
+    if isinstance(folder, str):
+        return folder
+    if folder.names is None:
+        return "nofolder"
+    return folder if lets(core.members, user, "w", folder) else "noright"
 
 
 def _new_place(core, user, path):
-    """The folder in which the path, no name of anything yet, shall stand."""
+    """The folder in which the path, no name of anything yet, shall stand, else a word."""
     if not path:
-        raise Refused("stands")
+        return "stands"
     folder = _folder_of(core, user, path)
-    if path[-1] in folder.names:
-        raise Refused("stands")
-    return folder
+    if isinstance(folder, str):
+        return folder
+    return "stands" if path[-1] in folder.names else folder
 
 
 def _old_place(core, user, path):
-    """The folder in which the path, no top, stands."""
+    """The folder in which the path, no top, stands, else a word."""
     if not path:
-        raise Refused("top")
+        return "top"
     folder = _folder_of(core, user, path)
-    if path[-1] not in folder.names:
-        raise Refused("nothere")
-    return folder
+    if isinstance(folder, str):
+        return folder
+    return folder if path[-1] in folder.names else "nothere"
 
 
 def _folder(core, user, deed):
     path = deed[1]
     place = _new_place(core, user, path)
+    if isinstance(place, str):
+        return ("no", place)
     place.names[path[-1]] = Folder(user, place.group, NEW_RIGHTS)
     return DONE
 
@@ -54,61 +59,74 @@ def _folder(core, user, deed):
 def _file(core, user, deed):
     path = deed[1]
     place = _new_place(core, user, path)
+    if isinstance(place, str):
+        return ("no", place)
     place.names[path[-1]] = File(user, place.group, NEW_RIGHTS)
     return DONE
 
 
 def _link(core, user, deed):
     _, path, new = deed
-    file = file_at(core, user, path)
+    file = file_at(core, user, path, None)
+    if isinstance(file, str):
+        return ("no", file)
     place = _new_place(core, user, new)
+    if isinstance(place, str):
+        return ("no", place)
     place.names[new[-1]] = file
-    if not has_room(core):
-        del place.names[new[-1]]
-        raise Refused("noroom")
     file.links += 1
-    return DONE
+    if has_room(core):
+        return DONE
+    del place.names[new[-1]]
+    file.links -= 1
+    return NO_ROOM
 
 
 def _move(core, user, deed):
     _, path, new = deed
     source = _old_place(core, user, path)
+    if isinstance(source, str):
+        return ("no", source)
     node = source.names[path[-1]]
-    inside = len(new) > len(path) and new[:len(path)] == path
-    if isinstance(node, Folder) and inside:
-        raise Refused("ring")
+    if node.names is not None and len(new) > len(path) and new[:len(path)] == path:
+        return ("no", "ring")
     target = _new_place(core, user, new)
+    if isinstance(target, str):
+        return ("no", target)
     if len(new) + height(node) > MOST_NAMES:
-        raise Refused("deep")
+        return ("no", "deep")
     del source.names[path[-1]]
     target.names[new[-1]] = node
-    if not has_room(core):
-        del target.names[new[-1]]
-        source.names[path[-1]] = node
-        raise Refused("noroom")
-    return DONE
+    if has_room(core):
+        return DONE
+    del target.names[new[-1]]
+    source.names[path[-1]] = node
+    return NO_ROOM
 
 
 def _strike(core, user, deed):
     path = deed[1]
     place = _old_place(core, user, path)
+    if isinstance(place, str):
+        return ("no", place)
     node = place.names[path[-1]]
-    if isinstance(node, Folder):
-        if node.names:
-            raise Refused("full")
-        core.limited.pop(node, None)
-    else:
+    if node.names is None:
         node.links -= 1
+    elif node.names:
+        return ("no", "full")
+    else:
+        core.limited.pop(node, None)
     del place.names[path[-1]]
     return DONE
 
 
 def _cut(core, user, deed):
     _, path, many = deed
-    file = file_at(core, user, path)
-    must_let(core, user, "w", file)
+    file = file_at(core, user, path, "w")
+    if isinstance(file, str):
+        return ("no", file)
     if many > file.size:
-        raise Refused("noplace")
+        return ("no", "noplace")
     file.parts = shortened(file.parts, many)
     file.size = many
     return DONE
@@ -116,17 +134,18 @@ def _cut(core, user, deed):
 
 def _rights(core, user, deed):
     _, path, owner, group, rights = deed
-    node = come_to(core.members, core.top, path, user)
-    must_own(user, node)
+    node = come_to(core, user, path)
+    if isinstance(node, str):
+        return ("no", node)
     ahead = node.owner
-    if owner != ahead and user != ROOT:
-        raise Refused("noright")
+    if not owns(user, node) or (owner != ahead and user != ROOT):
+        return NO_RIGHT
     node.owner = owner
     if owner != ahead and not has_room(core):
         node.owner = ahead
-        raise Refused("noroom")
+        return NO_ROOM
     node.group = group
-    node.rights = rights
+    give_rights(node, rights)
     return DONE
 
 

@@ -3,8 +3,7 @@
 Cells are told as ("cells", PARTS): who keeps the pieces puts the cells in.
 """
 
-from farfiles.nodes import DONE, Refused, copied, files_below, folder_at, gone_along, lets
-from farfiles.nodes import must_own
+from farfiles.nodes import DONE, NO_RIGHT, come_to, copied, folder_at, gone_along, lets, owns
 
 
 def telling_deed(core, user, deed):
@@ -40,7 +39,7 @@ def told_of_path(core, user, deed):
 
 def sight_of(core, user, path):
     """What look tells of the path, and what read or list does."""
-    node = gone_along(core.members, core.top, path, user)
+    node = come_to(core, user, path)
     if isinstance(node, str):
         answer = ("no", node)
         return (answer, answer)
@@ -59,8 +58,8 @@ def _told_of(core, user, node, word):
         return ("no", "nofolder")
     if names is not None and word == "read":
         return ("no", "nofile")
-    if not lets(core.members, user, "r", node):
-        return ("no", "noright")
+    if not node.is_open and not lets(core.members, user, "r", node):
+        return NO_RIGHT
     if names is None:
         return ("cells", node.parts)
     return ("told", tuple([(name, names[name].kind) for name in sorted(names)]))
@@ -86,19 +85,24 @@ def _back(core, user, deed):
 def _snap(core, user, deed):
     _, path, name = deed
     folder = folder_at(core, user, path)
-    must_own(user, folder)
+    if isinstance(folder, str):
+        return ("no", folder)
+    if not owns(user, folder):
+        return NO_RIGHT
     if name in core.snaps:
-        raise Refused("stands")
-    core.snaps[name] = copied(folder, {})
-    for file in files_below(folder):
-        for piece, _, _ in file.parts:
-            core.snapped[piece] = True
+        return ("no", "stands")
+    twins = {}
+    core.snaps[name] = copied(folder, twins)
+    for node in twins:
+        if node.names is None:
+            for piece, _, _ in node.parts:
+                core.snapped[piece] = True
     return DONE
 
 
 def _old(core, user, deed):
     if deed[1] not in core.snaps:
-        raise Refused("nosnap")
+        return ("no", "nosnap")
     return told_of_path(core, user, deed)
 
 

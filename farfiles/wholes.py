@@ -3,12 +3,12 @@
 
 def is_whole(thing):
     """Whether this is a whole number: an int that is no truth."""
-    return isinstance(thing, int) and not isinstance(thing, bool)
+    return isinstance(thing, int) and thing is not True and thing is not False
 
 
 def is_count(thing):
     """Whether this is a whole number from 0 on."""
-    return is_whole(thing) and thing >= 0
+    return isinstance(thing, int) and thing is not True and thing is not False and thing >= 0
 
 
 def is_from_to(thing, low, high):

@@ -24,10 +24,9 @@ def is_path(thing):
     if not isinstance(thing, tuple) or len(thing) > MOST_NAMES:
         return False
     for name in thing:
-        if not isinstance(name, str) or not 1 <= len(name) <= MOST_LETTERS:
+        if not isinstance(name, str) or not name or len(name) > MOST_LETTERS or name.strip(LETTERS):
             return False
-    # One look at the letters of all costs much less than one look at each.
-    return not "".join(thing).strip(LETTERS)
+    return True
 
 
 def is_rights(thing):

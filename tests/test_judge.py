@@ -6,8 +6,9 @@ import unittest
 from farfiles import judging
 from farfiles.errors import FarError, NoGroups, NoOrder, NoRows, NoUsers
 from farfiles.judging import judge
+from farfiles.trees import Tree
 from plain_judge import verdict
-from stories import changed, drawn_stories, left_out, told_story, twice
+from stories import changed, drawn_stories, left_out, roomy_story, told_story, twice
 from worlds_watched import Draw
 
 THINGS = (None, True, False, 7, -1, "", "a0", (), [], {}, ("a",), ["a"], b"a", (1, 2), ((),), {"a": 1})
@@ -499,6 +500,72 @@ class DrawnTest(unittest.TestCase):
                 seen[found and found[0]] = seen.get(found and found[0], 0) + 1
         for word in (None, "order", "told", "NoOrder", "NoRows"):
             self.assertGreater(seen.get(word, 0), 20, seen)
+
+
+class AskedForTest(unittest.TestCase):
+    """What isn't asked for isn't worked out: the answers that are hang on all else as ever."""
+
+    def check(self, *story):
+        found = judge(*story)
+        self.assertEqual(found, verdict(*story))
+        return found
+
+    def test_the_numbers_of_promises_in_a_tree_without_room(self):
+        """Each NUMBER hangs on all limits, shares, rights and ticks ahead, though nothing is told."""
+        seen = {True: 0, False: 0}
+        for seed in range(12):
+            (groups, users, order), _ = roomy_story(seed, 50)
+            self.assertIsNone(self.check(groups, users, order, ()))
+            for at, (place, *_, deed) in enumerate(order):
+                # With any deed left out the puts behind it may have other numbers.
+                found = self.check(groups, users, left_out(order, at), ())
+                seen[found is None] += 1
+                if deed[0] == "put":
+                    for number in (deed[1] + 1, deed[1] - 1, 0):
+                        spoilt = changed(order, at, 4, ("put", number, deed[2]))
+                        self.assertEqual(self.check(groups, users, spoilt, ()), ("order", place))
+        self.assertGreater(min(seen.values()), 50, seen)
+
+    def answered(self, groups, users, order):
+        """Rows of what was told of all that is in the order."""
+        tree, rows = Tree(groups), {}
+        for at, tick, asker, question, deed in order:
+            answer = tree.do(tick, users[int(asker[1:])], deed)
+            if deed[0] == "put":
+                _, path, place, _ = rows[question][2]
+                deed = ("write", path, place, deed[2])
+            rows[question] = (question, asker, deed, answer, at, 0, tick)
+        return [row for row in rows.values() if row[2][0] not in ("promise", "sight")]
+
+    def test_each_told_by_itself(self):
+        """An answer is the same, whichever others are told beside it."""
+        for seed in range(4):
+            (groups, users, order), _ = roomy_story(seed, 60)
+            rows = self.answered(groups, users, order)
+            self.assertIsNone(self.check(groups, users, order, tuple(sorted(rows))))
+            for row in rows:
+                self.assertIsNone(self.check(groups, users, order, (row,)), row)
+                spoilt = (*row[:3], ("no", "ring") if row[3] != ("no", "ring") else DONE, *row[4:])
+                self.assertEqual(self.check(groups, users, order, (spoilt,)), ("told", row[0]))
+
+    def test_a_snapshot_that_nobody_was_told_of(self):
+        order = ((1, 0, "a0", 0, ("file", ("f",))), (2, 0, "a0", 1, ("snap", (), "s")), (3, 0, "a0", 2, ("file", ("g",))),
+                 (4, 0, "a0", 3, ("snap", (), "s")), (5, 0, "a0", 4, ("old", "s", ())), (6, 0, "a0", 5, ("old", "t", ())))
+        for row in ((4, "a0", ("old", "s", ()), ("told", (("f", "file"),)), 5, 0, 0), (3, "a0", ("snap", (), "s"), ("no", "stands"), 4, 0, 0),
+                    (5, "a0", ("old", "t", ()), ("no", "nosnap"), 6, 0, 0)):
+            self.assertIsNone(self.check((), ("root",), order, (row,)))
+            self.assertEqual(self.check((), ("root",), order, ((*row[:3], ("no", "nothere"), *row[4:]),)), ("told", row[0]))
+        self.assertIsNone(self.check((), ("root",), order, ()))
+
+    def test_what_is_told_ahead_of_the_end(self):
+        """What stands behind the last one told is looked through, too."""
+        order = ((1, 0, "a0", 0, ("file", ("f",))), (2, 0, "a0", 1, ("read", ("f",))), (3, 0, "a0", 2, ("promise", ("f",), None, 1)),
+                 (4, 0, "a0", 2, ("put", 1, (5,))), (5, 0, "a0", 3, ("list", ())))
+        told = ((1, "a0", ("read", ("f",)), ("told", ()), 2, 0, 0),)
+        self.assertIsNone(self.check((), ("ann",), order, told))
+        self.assertEqual(self.check((), ("ann",), changed(order, 3, 4, ("put", 2, (5,))), told), ("order", 4))
+        self.assertEqual(self.check((), ("ann",), changed(order, 4, 3, 1), told), ("order", 5))
+        self.assertEqual(self.check((), ("ann",), order, (told[0], (9, *told[0][1:]))), ("told", 9))
 
 
 if __name__ == "__main__":

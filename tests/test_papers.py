@@ -129,6 +129,51 @@ class NewestTest(PapersCase):
                         self.assertIs(holds(*found), True)
         self.assertEqual(seen, {True, False})
 
+    def test_in_a_tree_without_room(self):
+        """Many a deed is refused, and no sight becomes another by such a one."""
+        seen = {True: 0, False: 0}
+        for seed in range(8):
+            (groups, users, order), _ = roomy_story(seed, 60)
+            for user in ("ann", "root"):
+                for path in ((), ("a",), ("a", "d"), ("b", "d"), ("b", "b")):
+                    tree, sights = Tree(groups), []
+                    for _, tick, asker, _, deed in order:
+                        tree.do(tick, users[int(asker[1:])], deed)
+                        sights.append(tree.sight(user, path))
+                    for at in range(0, len(order), 4):
+                        found = paper_newest(groups, users, order, user=user, path=path, place=order[at][0])
+                        stays = all(sight == sights[at] for sight in sights[at:])
+                        seen[stays] += 1
+                        claim = ("newest", groups, users, order, user, path, sights[at], order[at][0])
+                        self.assertEqual(found, (claim, None) if stays else None)
+                        self.assertIs(holds(claim, None), stays)
+        self.assertGreater(min(seen.values()), 100, seen)
+
+    def sight_stays(self, *deeds):
+        """Whether what root sees of the file f stays from the place 3, the put behind it, on."""
+        rows = [("file", ("f",)), ("promise", ("f",), None, 2), ("put", 1, (7, 8)), *deeds]
+        order = tuple([(at, 0, "a0", at - (deed[0] == "put"), deed) for at, deed in enumerate(rows, start=1)])
+        self.assertIsNone(judge((), ("root",), order, ()))
+        found = paper_newest((), ("root",), order, user="root", path=("f",), place=3)
+        sight = (("told", ("file", "root", "root", ("rw", "r", "r"), 2)), ("told", (7, 8)))
+        claim = ("newest", (), ("root",), order, "root", ("f",), sight, 3)
+        self.assertEqual(found, None if found is None else (claim, None))
+        self.assertIs(holds(claim, None), found is not None)
+        return found is not None
+
+    def test_what_changes_a_sight_and_what_does_not(self):
+        like, other = (("promise", ("f",), 0, 2), ("put", 2, (7, 8))), (("promise", ("f",), 0, 2), ("put", 2, (7, 9)))
+        for deeds in ((), like, like[:1], (("limit", (), 9),), (("share", "root", 2),), (("snap", (), "s"),), (("link", ("f",), ("g",)),),
+                      (("cut", ("f",), 2),), (("cut", ("f",), 3),), (("file", ("g",)), ("strike", ("g",))), (("strike", ("g",)),),
+                      (("rights", ("f",), "root", "root", ("rw", "r", "r")),), (("lease", ("f",), 3), ("back", ("f",)))):
+            self.assertTrue(self.sight_stays(*deeds), deeds)
+        for deeds in (other, (("cut", ("f",), 1),), (("strike", ("f",)),), (("rights", ("f",), "root", "root", ("rw", "r", "")),),
+                      (("rights", ("f",), "ann", "root", ("rw", "r", "r")),), (("rights", ("f",), "root", "one", ("rw", "r", "r")),),
+                      # There and back again it was another one for a while.
+                      (("move", ("f",), ("g",)), ("move", ("g",), ("f",))), (*other, ("promise", ("f",), 0, 2), ("put", 3, (7, 8))),
+                      (("strike", ("f",)), ("file", ("f",)))):
+            self.assertFalse(self.sight_stays(*deeds), deeds)
+
     def test_none_where_something_is_found_in_the_order(self):
         groups, users, order, _ = told_story()
         last = order[-1][0]

@@ -278,6 +278,15 @@ class PromiseTest(RoomCase):
         garden.no("nofile", "ann", "put", 3, (1,))
         garden.no("late", "ann", "put", 3, (1,))
 
+    def test_a_name_that_was_refused_keeps_no_file(self):
+        garden = self.garden
+        garden.done("ann", "limit", ("d",), 4)
+        garden.do("ann", "promise", ("y",), None, 1)
+        garden.no("noroom", "ann", "link", ("y",), ("d", "y"))
+        garden.no("noroom", "ann", "move", ("y",), ("d", "y"))
+        garden.done("ann", "strike", ("y",))
+        garden.no("nofile", "ann", "put", 3, (1,))
+
     def test_noright_and_then_the_promise_is_gone(self):
         garden = self.garden
         garden.do("ann", "promise", ("y",), 2, 1)
