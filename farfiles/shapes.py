@@ -47,21 +47,15 @@ def _old_place(core, user, path):
     return folder if path[-1] in folder.names else "nothere"
 
 
-def _folder(core, user, deed):
-    path = deed[1]
+def _make(core, user, deed):
+    word, path = deed
     place = _new_place(core, user, path)
     if isinstance(place, str):
         return ("no", place)
-    place.names[path[-1]] = Folder(user, place.group, NEW_RIGHTS)
-    return DONE
-
-
-def _file(core, user, deed):
-    path = deed[1]
-    place = _new_place(core, user, path)
-    if isinstance(place, str):
-        return ("no", place)
-    place.names[path[-1]] = File(user, place.group, NEW_RIGHTS)
+    if word == "folder":
+        place.names[path[-1]] = Folder(user, place.group, NEW_RIGHTS)
+    else:
+        place.names[path[-1]] = File(user, place.group, NEW_RIGHTS)
     return DONE
 
 
@@ -150,6 +144,6 @@ def _rights(core, user, deed):
 
 
 ACTIONS = {
-    "folder": _folder, "file": _file, "link": _link, "move": _move,
+    "folder": _make, "file": _make, "link": _link, "move": _move,
     "strike": _strike, "cut": _cut, "rights": _rights,
 }

@@ -108,46 +108,39 @@ class ToldTest(PapersCase):
 
 
 class NewestTest(PapersCase):
+    def check(self, story, user, path, every):
+        """Whether the sight stays, as the tree tells it, from the first place on, and from others."""
+        groups, users, order = story
+        tree, sights, seen = Tree(groups), [], []
+        for _, tick, asker, _, deed in order:
+            tree.do(tick, users[int(asker[1:])], deed)
+            sights.append(tree.sight(user, path))
+        for at in range(0, len(order), every):
+            stays = all(sight == sights[at] for sight in sights[at:])
+            seen.append(stays)
+            claim = ("newest", groups, users, order, user, path, sights[at], order[at][0])
+            found = paper_newest(groups, users, order, user=user, path=path, place=order[at][0])
+            self.assertEqual(found, (claim, None) if stays else None)
+            self.assertIs(holds(claim, None), stays)
+        return seen
+
     def test_as_the_tree_tells(self):
         seen = set()
-        for groups, users, order, _ in [told_story(), *drawn_stories(self, 20)]:
+        for *story, _ in [told_story(), *drawn_stories(self, 20)]:
             for user in ("ann", "nobody"):
                 for path in ((), ("b",), ("a", "b"), ("d", "f"), ("none",)):
-                    tree, sights = Tree(groups), []
-                    for _, tick, asker, _, deed in order:
-                        tree.do(tick, users[int(asker[1:])], deed)
-                        sights.append(tree.sight(user, path))
-                    for at in range(0, len(order), 3):
-                        found = paper_newest(groups, users, order, user=user, path=path, place=order[at][0])
-                        stays = all(sight == sights[at] for sight in sights[at:])
-                        seen.add(stays)
-                        if not stays:
-                            self.assertIsNone(found)
-                            continue
-                        claim = ("newest", groups, users, order, user, path, sights[at], order[at][0])
-                        self.assertEqual(found, (claim, None))
-                        self.assertIs(holds(*found), True)
+                    seen |= set(self.check(story, user, path, 3))
         self.assertEqual(seen, {True, False})
 
     def test_in_a_tree_without_room(self):
         """Many a deed is refused, and no sight becomes another by such a one."""
-        seen = {True: 0, False: 0}
+        seen = []
         for seed in range(8):
-            (groups, users, order), _ = roomy_story(seed, 60)
+            story, _ = roomy_story(seed, 60)
             for user in ("ann", "root"):
                 for path in ((), ("a",), ("a", "d"), ("b", "d"), ("b", "b")):
-                    tree, sights = Tree(groups), []
-                    for _, tick, asker, _, deed in order:
-                        tree.do(tick, users[int(asker[1:])], deed)
-                        sights.append(tree.sight(user, path))
-                    for at in range(0, len(order), 4):
-                        found = paper_newest(groups, users, order, user=user, path=path, place=order[at][0])
-                        stays = all(sight == sights[at] for sight in sights[at:])
-                        seen[stays] += 1
-                        claim = ("newest", groups, users, order, user, path, sights[at], order[at][0])
-                        self.assertEqual(found, (claim, None) if stays else None)
-                        self.assertIs(holds(claim, None), stays)
-        self.assertGreater(min(seen.values()), 100, seen)
+                    seen += self.check(story, user, path, 4)
+        self.assertGreater(min(seen.count(True), seen.count(False)), 100)
 
     def sight_stays(self, *deeds):
         """Whether what root sees of the file f stays from the place 3, the put behind it, on."""
