@@ -10,7 +10,9 @@ def strains_at(groups, users, order, place):
     None are told where it isn't answered with noroom, or where something is found in
     the order.
     """
-    if not any([row[0] == place and row[4][0] in ROOM_SEEKING for row in order]):
+    asked = [row for row in order if row[0] == place]
+    # Where a place stands twice this is found in the order, whatever deeds stand there.
+    if len(asked) != 1 or asked[0][4][0] not in ROOM_SEEKING:
         return []
     history = History(groups, users, max(place, last_put(order)), {})
     core = history.grove.core
